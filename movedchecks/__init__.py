@@ -1,0 +1,1 @@
+"""Movedchecks: programs whose checks a compiler moves."""

@@ -1,0 +1,56 @@
+"""The examples of the document under its first three stages."""
+
+import doctest
+import unittest
+
+EXAMPLES = """
+>>> from movedchecks.programs import Program
+>>> from movedchecks.rows import makes, uses
+>>> save = [("make", "x", "parse", ["a"]), ("write", "log", ["a"]), ("check", "x")]
+>>> rounds = ("loop", [], [("read", "r", "disk"), ("make", "y", "join", ["x", "r"]), ("check", "y")])
+>>> one = Program(["a"], save + [rounds])
+>>> [len(one), one.addresses()[3:], one.in_sight((3, 1, 1)), one.row_of("y")]
+[7, [(3,), (3, 1, 0), (3, 1, 1), (3, 1, 2)], ['a', 'r', 'x'], (3, 1, 1)]
+>>> two = one.moved((2,), (1,))
+>>> [two.row_at((1,)), two.moved((1,), (3,)) == one, makes(one.row_at((3,))), uses(one.row_at((3, 1, 1)))]
+[('check', 'x'), True, [], ['x', 'r']]
+>>> from movedchecks.playing import events, play, stops_at
+>>> from movedchecks.skeletons import fork_behind, forks, in_sight_at, stretch, whole_choices
+>>> [forks(one), in_sight_at(one, ("again", (0,))), list(whole_choices(one, 2))]
+[[('again', (0,)), ('end', ()), ('first', (0,)), ('start', ())], ['a', 'x'], [['out'], ['round', 'out']]]
+>>> [fork_behind(one, ("again", (0,)), "round"), stretch(one, ("first", (0,)), "round")[0]]
+[('again', (0,)), ('read', 'r', 'disk')]
+>>> parsed = ("made", "parse", (("in", "a"),))
+>>> [play(one, ["out"], [parsed]), play(two, ["out"], [parsed]), stops_at(one, ["out"], [parsed])]
+[({'log': [(('in', 'a'),)]}, ('error', 'parse')), ({}, ('error', 'parse')), ((2,), 0)]
+>>> joined = ("made", "join", (parsed, ("seen", "disk", 0)))
+>>> events(two, ["round"])[3:] == [("read", "r", ("seen", "disk", 0)), ("make", "y", joined), ("check", "y", joined)]
+True
+>>> from movedchecks.differences import differences, first_checks, least_bad
+>>> from movedchecks.lags import lag_choices, lags
+>>> [first_checks(one, ["out"]), first_checks(two, ["out"])]
+[[(('made', 'parse', (('in', 'a'),)), (('log', 1),))], [(('made', 'parse', (('in', 'a'),)), ())]]
+>>> [differences(one, two, ["out"]) == [("check", parsed)], least_bad(one, two, ["out"]) == [parsed]]
+[True, True]
+>>> least_bad(one, one, ["round", "out"]) is None
+True
+>>> three = Program(["a"], [("if", [("write", "log", ["a"])], [("write", "log", ["a"])], [])])
+>>> four = Program(["a"], [("write", "log", ["a"]), ("if", [], [], [])])
+>>> [lags(three, four)[("if", (0,))], lag_choices(three, four)]
+[{'log': -1}, None]
+>>> lag_choices(four, Program(["a"], [("if", [], [], [])]))
+['no']
+"""
+
+
+class ExamplesTest(unittest.TestCase):
+    def test_examples(self):
+        examples = doctest.DocTestParser().get_doctest(EXAMPLES, {}, "examples", None, 0)
+        told = []
+        result = doctest.DocTestRunner().run(examples, out=told.append)
+        self.assertEqual((result.failed, "".join(told)), (0, ""))
+        self.assertGreater(result.attempted, 20)
+
+
+if __name__ == "__main__":
+    unittest.main()

@@ -117,7 +117,7 @@ def _spliced(rows, gap, many, new):
 def _behind_new_row(address, gap):
     """Where the row at an address is when another row has been put at a gap."""
     last = len(gap) - 1
-    if address[:last] != gap[:last] or len(address) <= last or address[last] < gap[last]:
+    if address[:last] != gap[:last] or address[last] < gap[last]:
         return address
     return address[:last] + (address[last] + 1,) + address[last + 1:]
 
@@ -207,7 +207,7 @@ class Program:
             raise Wrong(1)
         if not self._has_gap(gap):
             raise NoGap(gap)
-        return Program(self._inputs, _spliced(self.rows(), gap, 0, [frozen(row)]))
+        return Program(self._inputs, _spliced(self.rows(), gap, 0, [row]))
 
     def out(self, address):
         """The Program without a row and all that stands in its lists."""

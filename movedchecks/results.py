@@ -7,7 +7,7 @@ MOST_PARTS = 3
 
 def _has_form(thing):
     """Whether thing is a result by its form, whatever the parts of a made one are."""
-    if not isinstance(thing, tuple) or len(thing) == 0 or not isinstance(thing[0], str):
+    if not isinstance(thing, tuple) or len(thing) == 0:
         return False
     if thing[0] == "in":
         return len(thing) == 2 and is_name(thing[1])

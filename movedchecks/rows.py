@@ -32,9 +32,7 @@ def _has_form(kind, parts):
 
 def is_row(thing):
     """Whether thing is a row by its form, whatever is in sight."""
-    if not isinstance(thing, tuple) or len(thing) == 0 or not isinstance(thing[0], str):
-        return False
-    return _has_form(thing[0], thing[1:])
+    return isinstance(thing, tuple) and len(thing) > 0 and _has_form(thing[0], thing[1:])
 
 
 def are_rows(thing):

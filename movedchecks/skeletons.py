@@ -129,7 +129,7 @@ def _is_fork_by_form(thing):
 
 def may_choose(fork, word):
     """Whether any value is a word that may be chosen at a fork."""
-    return isinstance(word, str) and word in words_at(fork)
+    return word in words_at(fork)
 
 
 def _roads_with(program, fork):

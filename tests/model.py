@@ -323,7 +323,8 @@ class Maker:
             address = self.random.choice(program.addresses() or [(0,)])
             gap = address[:-1] + (address[-1] + 2,)
             try:
-                if program.row_at(address)[0] not in KINDS and program.row_at(gap[:-1] + (gap[-1] - 1,))[0] not in KINDS:
+                both = [program.row_at(address), program.row_at(address[:-1] + (address[-1] + 1,))]
+                if all(row[0] not in KINDS for row in both):
                     program = program.moved(address, gap)
             except MoveError:
                 pass

@@ -8,6 +8,7 @@ from movedchecks.errors import MoveError, Unlike
 from movedchecks.playing import play
 from movedchecks.programs import Program
 from tests import model
+from tests.cases import Case
 
 A = ("in", "a")
 
@@ -90,7 +91,7 @@ class NormalFormTest(unittest.TestCase):
         self.assertEqual(list(normal_form(one, [])[0]), ["b", "m", "z"])
 
 
-class DifferencesTest(unittest.TestCase):
+class DifferencesTest(Case):
     def unlike(self, one, other, choices, found, bad):
         for words in (choices, tuple(choices)):
             for first, second in ((one, other), (other, one)):
@@ -166,9 +167,7 @@ class DifferencesTest(unittest.TestCase):
                       program(("loop", [], []), ("leave",)), Program(["a", "c"], [("loop", [], []), LOG])):
             for call in (differences, is_same, least_bad):
                 for first, second in ((one, other), (other, one)):
-                    with self.assertRaises(MoveError) as caught:
-                        call(first, second, ["out"])
-                    self.assertIs(type(caught.exception), Unlike)
+                    self.fails(Unlike, call, first, second, ["out"])
         turned = Program(["b", "a"], one.rows())
         self.assertEqual([differences(one, turned, ["out"]), is_same(one, turned, ["out"]),
                           least_bad(one, turned, ["out"])], [[], True, None])
@@ -214,7 +213,9 @@ class GuaranteesTest(unittest.TestCase):
             mine, theirs = first_checks(one, choices), first_checks(other, choices)
             here, there = [check[0] for check in mine], [check[0] for check in theirs]
             found = [("check", result) for result in here + there if (result in here) != (result in there)]
-            found += [("check", result) for result, counts in mine if result in there and (result, counts) not in theirs]
+            found += [
+                ("check", result) for result, counts in mine if result in there and (result, counts) not in theirs
+            ]
             found += [
                 ("order", first, second) for first in here for second in here
                 if first in there and second in there and first < second and first[1] != second[1]

@@ -2,11 +2,11 @@
 
 import unittest
 
-from movedchecks.errors import MoveError, NoLags, Unlike
+from movedchecks.errors import NoLags, Unlike
 from movedchecks.lags import greatest_lag, lag_choices, lags
 from movedchecks.programs import Program
 from movedchecks.skeletons import forks, is_whole
-from tests import model
+from tests import cases, model
 
 LOG, OUT = ("write", "log", ["a"]), ("write", "out", [])
 LEAVE = ("leave",)
@@ -25,7 +25,7 @@ def final_counts(program, choices):
     return {channel: len(rows) for channel, rows in machine.writes.items()}, machine.end
 
 
-class Case(unittest.TestCase):
+class Case(cases.Case):
     def stand(self, one, other, table):
         for sign, first, second in ((1, one, other), (-1, other, one)):
             expected = {fork: {channel: sign * many for channel, many in row.items()} for fork, row in table.items()}
@@ -53,9 +53,7 @@ class Case(unittest.TestCase):
             self.assertIn(end, [("done",), ("left",)])
             self.assertNotEqual(mine, final_counts(other, choices)[0])
             self.assertLessEqual(self.most_rounds(one, choices), 2)
-            with self.assertRaises(MoveError) as caught:
-                greatest_lag(first, second)
-            self.assertIs(type(caught.exception), NoLags)
+            self.fails(NoLags, greatest_lag, first, second)
 
     def most_rounds(self, program, choices):
         """The most rounds that a loop goes at once: runs of rounds at its forks from one coming to the next one."""
@@ -169,9 +167,7 @@ class LagsTest(Case):
                       program(("loop", [], []), LOG)):
             for call in (lags, lag_choices, greatest_lag):
                 for first, second in ((one, other), (other, one)):
-                    with self.assertRaises(MoveError) as caught:
-                        call(first, second)
-                    self.assertIs(type(caught.exception), Unlike)
+                    self.fails(Unlike, call, first, second)
         turned = Program(["b", "a"], [LOG])
         self.assertEqual([lags(one, turned), lag_choices(one, turned), greatest_lag(one, turned)],
                          [{("end", ()): {"log": 0}, ("start", ()): {"log": 0}}, None, 0])

@@ -2,11 +2,12 @@
 
 import unittest
 
-from movedchecks.errors import BadChoices, MoveError, Nothing, NoWord
+from movedchecks.errors import BadChoices, Nothing, NoWord
 from movedchecks.playing import Run, events, fork_at, play, results_at, stops_at, written_at
 from movedchecks.programs import Program
 from movedchecks.skeletons import in_sight_at
 from tests import model
+from tests.cases import Case
 from tests.values import any_values
 
 A = ("in", "a")
@@ -25,8 +26,8 @@ def sample():
     return Program(["a"], [
         make("x", "f", "a"),
         ("write", "log", ["a", "x"]),
-        ("loop", [("read", "r", "log"), make("y", "g", "r")], [("check", "y"), ("write", "log", []), ("read", "s", "log"),
-                                                              make("z", "h", "s", "y"), ("check", "z")]),
+        ("loop", [("read", "r", "log"), make("y", "g", "r")],
+         [("check", "y"), ("write", "log", []), ("read", "s", "log"), make("z", "h", "s", "y"), ("check", "z")]),
         ("if", [("write", "out", ["x"]), ("leave",)], [make("v", "f", "x")], [("j", "x", "v")]),
         ("check", "j"),
     ])
@@ -52,16 +53,6 @@ SECOND_ROUND = [
 ]
 NO = [("make", "v", V), ("join", "j", V), ("check", "j", V)]
 YES = [("write", "out", (X,))]
-
-
-class Case(unittest.TestCase):
-    def fails(self, error, call, *args, **fields):
-        for _ in range(2):
-            with self.assertRaises(MoveError) as caught:
-                call(*args)
-            self.assertIs(type(caught.exception), error)
-            self.assertEqual(vars(caught.exception), fields)
-        return caught.exception
 
 
 class WaysTest(Case):

@@ -8,7 +8,7 @@ from movedchecks.errors import (
 from movedchecks.playing import Run
 from movedchecks.programs import Program
 from movedchecks.rows import frozen
-from tests import model
+from tests import cases, model
 from tests.values import any_values
 
 CHECK = ("check", "a")
@@ -27,15 +27,7 @@ def within_loops(rows, many):
     return rows
 
 
-class Case(unittest.TestCase):
-    def fails(self, error, call, *args, **fields):
-        for _ in range(2):
-            with self.assertRaises(MoveError) as caught:
-                call(*args)
-            self.assertIs(type(caught.exception), error)
-            self.assertEqual(vars(caught.exception), fields)
-        return caught.exception
-
+class Case(cases.Case):
     def refuses(self, inputs, rows, error, **fields):
         self.fails(error, Program, inputs, rows, **fields)
         self.fails(error, Program, tuple(inputs), tuple(rows), **fields)
@@ -43,7 +35,8 @@ class Case(unittest.TestCase):
 
 class WrongTest(Case):
     def test_inputs(self):
-        for inputs in [["a", "a"], list("abcde"), ["A"], [""], ["abcdefghi"], [1], [True], [["a"]], "a", None, {"a": 1}]:
+        wrong = [["a", "a"], list("abcde"), ["A"], [""], ["abcdefghi"], [1], [True], [["a"]], "a", None, {"a": 1}]
+        for inputs in wrong:
             self.fails(Wrong, Program, inputs, [], place=0)
             self.fails(Wrong, Program, inputs, None, place=0)
         for thing in any_values():
@@ -131,10 +124,12 @@ class LimitsTest(Case):
         self.assertEqual(len(Program(list("abcd"), again)), 4)
         together = [("if", [], [], [("x", "a", "b"), ("y", "c", "d")]), ("if", [], [], [("v", "a", "b")])]
         self.assertEqual(len(Program(list("abcd"), together + [make("z", "x", "y", "v")])), 3)
-        self.refuses(list("abcd"), together + [("if", [], [], [("u", "a", "b")]), make("z", "x", "u", "v")], Wide, name="z")
+        together.append(("if", [], [], [("u", "a", "b")]))
+        self.refuses(list("abcd"), together + [make("z", "x", "u", "v")], Wide, name="z")
 
     def test_lists_with_a_leave_count(self):
-        rows = [("if", [LEAVE], [LEAVE], [("x", "a", "b")]), ("if", [LEAVE], [], [("y", "c", "d")]), make("z", "x", "y")]
+        leaving = [("if", [LEAVE], [LEAVE], [("x", "a", "b")]), ("if", [LEAVE], [], [("y", "c", "d")])]
+        rows = leaving + [make("z", "x", "y")]
         self.assertEqual(len(Program(list("abcd"), rows)), 6)
         self.refuses(list("abcd"), rows + [("if", [], [LEAVE], [("w", "z", "a")])], Wide, name="w")
 

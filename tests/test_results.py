@@ -29,6 +29,7 @@ class FormTest(unittest.TestCase):
         ("made", "f"), ("made", "f", []), ("made", "f", [A]), ("made", "f", A), ("made", "f", "a"),
         ("made", "f", None), ("made", 1, ()), ("made", "", ()), ("made", "f", (A, A, A, A)), ("made", "f", ("a",)),
         ("made", "f", (A,), ()), ["made", "f", ()], ("made", "f", {}), ("mark", "disk", 0), ("", "a"), (),
+        ("mark", "disk", ()), ("make", "f", ()), ("f", "f", (A,)), (0, "f", ()), (["made"], "f", ()),
     ]
 
     def test_is_result(self):

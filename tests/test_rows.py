@@ -131,6 +131,12 @@ class PartsTest(unittest.TestCase):
             [["a", "b", "a"], [], ["x"], ["a", "x"], [], ["x", "r", "a", "b"], []],
         )
         self.assertEqual(uses(("if", [CHECK], [], (("z", "b", "a"), ("y", "b", "b")))), ["b", "a", "b", "b"])
+        for row in (MAKE, CHECK, WRITE, IF):
+            for same in (row, frozen(row)):
+                kept = list(uses(same))
+                uses(same).append("more"), makes(same).append("more")
+                self.assertEqual([uses(same), makes(same)], [kept, makes(row)])
+                self.assertIsInstance(uses(same), list)
 
     def test_renamed(self):
         names = {"x": "a", "a": "x", "r": "new", "j": "f", "f": "no", "disk": "no", "log": "no", "leave": "no"}

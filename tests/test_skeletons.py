@@ -2,12 +2,13 @@
 
 import unittest
 
-from movedchecks.errors import MoveError, NoFork, NoWord
+from movedchecks.errors import NoFork, NoWord
 from movedchecks.programs import Program
 from movedchecks.skeletons import (
     fork_behind, forks, in_sight_at, is_comparable, is_whole, row_at_fork, skeleton, stretch, whole_choices, words_at
 )
 from tests import model
+from tests.cases import Case
 from tests.values import any_values
 
 LEAVE = ("leave",)
@@ -38,15 +39,6 @@ def never_behind():
         make("z"),
         ("loop", [], [("check", "z")]),
     ])
-
-
-class Case(unittest.TestCase):
-    def fails(self, error, field, value, call, *args):
-        for _ in range(2):
-            with self.assertRaises(MoveError) as caught:
-                call(*args)
-            self.assertIs(type(caught.exception), error)
-            self.assertIs(getattr(caught.exception, field), value)
 
 
 class SkeletonTest(Case):
@@ -144,15 +136,15 @@ class ForksTest(Case):
                   ("if", (False,)), ("first", (True,)), ["if", (0,)], ("if", [0]), ("if", (0, 0, 0)), ("", ())]
         for fork in others + any_values():
             for call in (in_sight_at, row_at_fork):
-                self.fails(NoFork, "at", fork, call, program, fork)
+                self.assertIs(self.fails(NoFork, call, program, fork, at=fork).at, fork)
             for call in (fork_behind, stretch):
-                self.fails(NoFork, "at", fork, call, program, fork, "yes")
-                self.fails(NoFork, "at", fork, call, program, fork, [])
+                self.assertIs(self.fails(NoFork, call, program, fork, "yes", at=fork).at, fork)
+                self.assertIs(self.fails(NoFork, call, program, fork, [], at=fork).at, fork)
         for fork in [END, ("again", (0,)), ("if", (0, 1, 0)), ("first", (2,)), ("again", (2,))]:
             for call in (in_sight_at, row_at_fork):
-                self.fails(NoFork, "at", fork, call, unreached, fork)
+                self.assertIs(self.fails(NoFork, call, unreached, fork, at=fork).at, fork)
             for call in (fork_behind, stretch):
-                self.fails(NoFork, "at", fork, call, unreached, fork, "out")
+                self.assertIs(self.fails(NoFork, call, unreached, fork, "out", at=fork).at, fork)
 
 
 class WaysTest(Case):
@@ -218,8 +210,8 @@ class WaysTest(Case):
         for fork in forks(program):
             for word in ["yes", "no", "round", "out", "", "start", *any_values()]:
                 if not (isinstance(word, str) and word in words_at(fork)):
-                    self.fails(NoWord, "word", word, fork_behind, program, fork, word)
-                    self.fails(NoWord, "word", word, stretch, program, fork, word)
+                    self.assertIs(self.fails(NoWord, fork_behind, program, fork, word, word=word).word, word)
+                    self.assertIs(self.fails(NoWord, stretch, program, fork, word, word=word).word, word)
 
 
 class WholeTest(Case):

@@ -14,7 +14,7 @@ def any_values():
         (), (True,), (False,), (-1,), (0, 0), (None,), ("0",), ([0],), ((0,),), (0, 0, True), (10 ** 9,), {}, {0: 0},
         {"a": [1]}, [True], ["yes", 1], ["yes", None], ["yes", ["no"]], ("made",), ("if",), ("if", ()), ("if", [0]),
         ("if", (False,)), ("first", (False,)), ("if", (0, [])), (["if"], (0,)), ["if", (0,)], ("start",),
-        ("start", ()) + ((),), ("start", []), ("end", (0,)), ("again", (True,)), ("check", 1), ("check", ["x"]),
+        ("start", (), ()), ("start", []), ("end", (0,)), ("again", (True,)), ("check", 1), ("check", ["x"]),
         ("leave", ()), ["leave"], ("make", "x", "f"), ("make", "x", "f", "a"), ("make", "x", "f", {}),
         nested("a", 39), nested((), 39), [None] * 19000, "x" * 300,
     ]

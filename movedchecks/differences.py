@@ -1,40 +1,152 @@
 """In what two programs are unlike along the same choices."""
 
 from movedchecks.errors import Unlike
-from movedchecks.playing import events, play
-from movedchecks.results import different, word_of
+from movedchecks.playing import road_along, whole_road
+from movedchecks.results import word_of
 from movedchecks.skeletons import is_comparable
 
 
-def _key_of(result):
-    # Results nest too deep for keys of dicts; texts do as well.
-    return repr(result)
+class Numbering:
+    """Numbers for results, which nest too deep for keys of dicts: equal results have the same one."""
+
+    def __init__(self):
+        self._numbers = {}
+        self._results = []
+
+    def of_plain(self, result):
+        """The number of an input or a reading."""
+        return self._of(result, result)
+
+    def of_made(self, word, numbers):
+        """The number of what is made of the results with these numbers."""
+        key = ("made", word) + numbers
+        if key in self._numbers:
+            return self._numbers[key]
+        return self._of(key, ("made", word, self.results(numbers)))
+
+    def _of(self, key, result):
+        if key not in self._numbers:
+            self._numbers[key] = len(self._results)
+            self._results.append(result)
+        return self._numbers[key]
+
+    def result(self, number):
+        """The result with a number."""
+        return self._results[number]
+
+    def results(self, numbers):
+        """The tuple of the results with these numbers."""
+        return tuple([self._results[number] for number in numbers])
 
 
-def first_checks(program, choices):
-    """The list of the made results that are checked, each with how often channels were written before."""
-    counts, known, found = {}, {}, []
-    for event in events(program, choices):
-        if event[0] == "write":
-            counts[event[1]] = counts.get(event[1], 0) + 1
-        elif event[0] == "check" and word_of(event[2]) is not None and _key_of(event[2]) not in known:
-            known[_key_of(event[2])] = True
-            found.append((event[2], tuple([(channel, counts[channel]) for channel in sorted(counts)])))
-    return found
+class Record:
+    """What a run with nothing bad writes, and what it checks first, along a list of forks and words."""
+
+    def __init__(self, program, passed, numbering):
+        self._numbering = numbering
+        self._held = {name: numbering.of_plain(("in", name)) for name in program.inputs}
+        self._writes = {}
+        # The counts ahead of the first check of each checked result that is made, in the order of these checks.
+        self._checks = {}
+        self._counts = ()
+        roads = program.roads()
+        for fork, word in passed:
+            for _, deed in roads.done(fork, word):
+                self._do(deed)
+
+    def _do(self, deed):
+        kind, name = deed[0], deed[1]
+        if kind == "check":
+            self._check(self._held[name])
+        elif kind == "write":
+            self._write(name, deed[2])
+        elif kind == "join":
+            self._held[name] = self._held[deed[2]]
+        elif kind == "read":
+            self._held[name] = self._numbering.of_plain(("seen", deed[2], len(self._writes.get(deed[2], ()))))
+        else:
+            self._held[name] = self._numbering.of_made(deed[2], self._numbers_of(deed[3]))
+
+    def _numbers_of(self, names):
+        return tuple([self._held[name] for name in names])
+
+    def _check(self, number):
+        if number not in self._checks and word_of(self._numbering.result(number)) is not None:
+            self._checks[number] = self._counts
+
+    def _write(self, channel, names):
+        self._writes.setdefault(channel, []).append(self._numbering.results(self._numbers_of(names)))
+        self._counts = tuple([(written, len(self._writes[written])) for written in sorted(self._writes)])
+
+    def written(self):
+        """The dict from the channels to the lists of what was written to them."""
+        return {channel: list(self._writes[channel]) for channel in sorted(self._writes)}
+
+    def checked(self):
+        """The dict from the numbers of the results that are checked to how often channels were written before."""
+        return {number: self._checks[number] for number in self._checks}
+
+    def first_checks(self):
+        """The list of the tuples of a result that is checked and of how often channels were written before."""
+        return [(self._numbering.result(number), self._checks[number]) for number in self._checks]
+
+    def lots(self):
+        """The first checks, those put together that can change places."""
+        lots = []
+        for result, counts in self.first_checks():
+            if len(lots) == 0 or lots[-1][:2] != (counts, word_of(result)):
+                lots.append((counts, word_of(result), []))
+            lots[-1][2].append(result)
+        return [(counts, word, sorted(results)) for counts, word, results in lots]
+
+    def form(self):
+        """The tuple of what is written and of the lots of first checks."""
+        return self.written(), self.lots()
 
 
-def _written(program, choices):
-    return play(program, choices, [])[0]
+class Comparison:
+    """Two programs that are compared, along the same whole choices."""
 
+    def __init__(self, one, other, choices):
+        if not is_comparable(one, other):
+            raise Unlike()
+        # Programs with one skeleton have the same forks.
+        passed = whole_road(one, choices)
+        self._numbering = Numbering()
+        self._mine = Record(one, passed, self._numbering)
+        self._theirs = Record(other, passed, self._numbering)
 
-def normal_form(program, choices):
-    """The tuple of what a run writes and of its first checks, those put together that can change places."""
-    lots = []
-    for result, counts in first_checks(program, choices):
-        if len(lots) == 0 or lots[-1][:2] != (counts, word_of(result)):
-            lots.append((counts, word_of(result), []))
-        lots[-1][2].append(result)
-    return _written(program, choices), [(counts, word, sorted(results)) for counts, word, results in lots]
+    def is_same(self):
+        """Whether nothing is unlike: if so, the normal forms are equal."""
+        return self._mine.form() == self._theirs.form()
+
+    def writes(self):
+        """The list of the unlike writes, by channels."""
+        mine, theirs = self._mine.written(), self._theirs.written()
+        found = []
+        for channel in sorted(set(list(mine) + list(theirs))):
+            number = _first_unlike(mine.get(channel, []), theirs.get(channel, []))
+            if number is not None:
+                found.append(("write", channel, number))
+        return found
+
+    def checks(self):
+        """The list of the unlike checks."""
+        here, there = self._mine.checked(), self._theirs.checked()
+        found = [number for number in here if number not in there or here[number] != there[number]]
+        found.extend([number for number in there if number not in here])
+        return [("check", self._numbering.result(number)) for number in found]
+
+    def orders(self):
+        """The list of the unlike orders of two checks."""
+        places = {number: place for place, number in enumerate(self._theirs.checked())}
+        shared = [(self._numbering.result(number), number) for number in self._mine.checked() if number in places]
+        return [
+            ("order", min(first[0], second[0]), max(first[0], second[0]))
+            for index, first in enumerate(shared)
+            for second in shared[index + 1:]
+            if places[first[1]] > places[second[1]] and word_of(first[0]) != word_of(second[0])
+        ]
 
 
 def _first_unlike(some, others):
@@ -45,66 +157,33 @@ def _first_unlike(some, others):
     return None if len(some) == len(others) else min(len(some), len(others))
 
 
-def _write_differences(one, other, choices):
-    mine, theirs = _written(one, choices), _written(other, choices)
-    found = []
-    for channel in sorted(set(list(mine) + list(theirs))):
-        number = _first_unlike(mine.get(channel, []), theirs.get(channel, []))
-        if number is not None:
-            found.append(("write", channel, number))
-    return found
+def first_checks(program, choices):
+    """The list of the made results that are checked, each with how often channels were written before."""
+    return Record(program, road_along(program, choices)[1], Numbering()).first_checks()
 
 
-def _places(checks):
-    """The dict from the keys of results that are checked to where their first checks stand, and their counts."""
-    return {_key_of(result): (place, counts) for place, (result, counts) in enumerate(checks)}
-
-
-def _check_differences(mine, theirs):
-    here, there = _places(mine), _places(theirs)
-    unlike = []
-    for result in different([result for result, _ in mine + theirs]):
-        key = _key_of(result)
-        if key not in here or key not in there or here[key][1] != there[key][1]:
-            unlike.append(("check", result))
-    return unlike
-
-
-def _order_differences(mine, theirs):
-    here, there = _places(mine), _places(theirs)
-    shared = []
-    for result in different([result for result, _ in mine]):
-        key = _key_of(result)
-        if key in there:
-            shared.append((result, here[key][0], there[key][0]))
-    return [
-        ("order", first[0], second[0])
-        for index, first in enumerate(shared)
-        for second in shared[index + 1:]
-        if word_of(first[0]) != word_of(second[0]) and (first[1] < second[1]) != (first[2] < second[2])
-    ]
+def normal_form(program, choices):
+    """The tuple of what a run writes and of its first checks, those put together that can change places."""
+    return Record(program, whole_road(program, choices), Numbering()).form()
 
 
 def differences(one, other, choices):
     """The ascending list of what is unlike in the runs of two programs along whole choices."""
-    if not is_comparable(one, other):
-        raise Unlike()
-    mine, theirs = first_checks(one, choices), first_checks(other, choices)
-    checks = _check_differences(mine, theirs) + _order_differences(mine, theirs)
-    return sorted(checks + _write_differences(one, other, choices))
+    both = Comparison(one, other, choices)
+    return sorted(both.checks() + both.orders() + both.writes())
 
 
 def is_same(one, other, choices):
     """Whether nothing is unlike in the two runs."""
-    return len(differences(one, other, choices)) == 0
+    return Comparison(one, other, choices).is_same()
 
 
 def least_bad(one, other, choices):
     """The bad results, as few as possible, with which something unlike is seen; None if nothing ever is."""
-    unlike = differences(one, other, choices)
-    if len(unlike) == 0:
+    both = Comparison(one, other, choices)
+    if both.is_same():
         return None
     # Unlike writes are seen with nothing bad; an unlike check only with its result, an unlike order with both.
-    if unlike[-1][0] == "write":
+    if len(both.writes()) > 0:
         return []
-    return list(unlike[0][1:])
+    return list(min(both.checks() + both.orders())[1:])

@@ -1,12 +1,13 @@
 """Lags: how many more writes of a channel one program has done than the other."""
 
 from movedchecks.errors import NoLags, Unlike
-from movedchecks.skeletons import START, Roads, is_comparable, words_at
+from movedchecks.skeletons import START, is_comparable, words_at
 
 MOST_ROUNDS = 2
 
 
-def _written_channels(one, other):
+def written_channels(one, other):
+    """The ascending list of the channels that a row of one of two programs writes."""
     rows = [program.row_at(address) for program in (one, other) for address in program.addresses()]
     return sorted(set([row[1] for row in rows if row[0] == "write"]))
 
@@ -17,9 +18,9 @@ class Ways:
     def __init__(self, one, other):
         if not is_comparable(one, other):
             raise Unlike()
-        self._roads = Roads(one)
-        self._others = Roads(other)
-        self.channels = _written_channels(one, other)
+        self._roads = one.roads()
+        self._others = other.roads()
+        self.channels = written_channels(one, other)
 
     def behind(self, fork, word, lag):
         """The fork to which a word leads, and the lags there, in the order of the channels."""

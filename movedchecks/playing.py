@@ -2,7 +2,7 @@
 
 from movedchecks.errors import BadChoices, Nothing, NoWord
 from movedchecks.results import different, word_of
-from movedchecks.skeletons import START, Roads, in_sight_at, may_choose, words_at
+from movedchecks.skeletons import START, in_sight_at, may_choose, words_at
 
 
 class Run:
@@ -11,7 +11,7 @@ class Run:
     def __init__(self, program, bad=()):
         self._program = program
         self._bad = different(bad)
-        self._roads = Roads(program)
+        self._roads = program.roads()
         self._begin()
 
     def __eq__(self, other):
@@ -115,22 +115,40 @@ class Run:
         return tuple([self._held[name] for name in names])
 
 
+def road_along(program, choices):
+    """The tuple of the fork to which choices lead, and of the list of the forks and words on the way."""
+    roads = program.roads()
+    fork, passed = roads.first_fork(), [(START, "")]
+    for at, word in enumerate(choices):
+        if not may_choose(fork, word):
+            raise BadChoices(at)
+        passed.append((fork, word))
+        fork = roads.behind(fork, word)
+    return fork, passed
+
+
+def whole_road(program, choices):
+    """The list of the forks and words on the way along whole choices."""
+    fork, passed = road_along(program, choices)
+    if len(words_at(fork)) > 0:
+        raise BadChoices(len(choices))
+    return passed
+
+
 def _run_along(program, choices):
     """The Run with nothing bad along choices that lead to a fork."""
+    _, passed = road_along(program, choices)
     run = Run(program)
-    for at, word in enumerate(choices):
-        if not may_choose(run.fork, word):
-            raise BadChoices(at)
+    for _, word in passed[1:]:
         run.go(word)
     return run
 
 
 def _run_to_the_end(program, choices, bad):
     """The Run with bad results along whole choices, as far as it comes."""
-    if len(words_at(_run_along(program, choices).fork)) > 0:
-        raise BadChoices(len(choices))
+    passed = whole_road(program, choices)
     run = Run(program, bad)
-    for word in choices:
+    for _, word in passed[1:]:
         if run.end is None:
             run.go(word)
     return run
@@ -143,7 +161,7 @@ def events(program, choices):
 
 def fork_at(program, choices):
     """The fork to which choices lead."""
-    return _run_along(program, choices).fork
+    return road_along(program, choices)[0]
 
 
 def results_at(program, choices):

@@ -7,6 +7,7 @@ from movedchecks.kinds import are_names, is_address, is_name
 from movedchecks.rows import (
     are_rows, count, depth, frozen, is_row, lists_of, makes, renamed, uses, with_lists
 )
+from movedchecks.skeletons import Roads
 from movedchecks.variants import Variants
 
 MOST_INPUTS = 4
@@ -98,12 +99,6 @@ def _check_sights(table, sights):
             raise Unseen(address, name)
 
 
-def _check_trees(inputs, rows):
-    wide = Variants(inputs, rows).wide()
-    if len(wide) > 0:
-        raise Wide(wide[0])
-
-
 def _spliced(rows, gap, many, new):
     """The list of rows in which new stands at a gap, in the place of the next so many rows."""
     index = gap[0]
@@ -142,7 +137,11 @@ class Program:
         _check_makers(self._inputs, self._table)
         _note_sights(self._rows, (), self._inputs, self._sights)
         _check_sights(self._table, self._sights)
-        _check_trees(self._inputs, self._rows)
+        self._variants = Variants(self._inputs, self._rows)
+        if len(self._variants.wide()) > 0:
+            raise Wide(self._variants.wide()[0])
+        # Most that is asked of a program asks for its ways: they are found once.
+        self._roads = Roads(self._rows, self._table)
         self._makers = {name: None for name in self._inputs}
         for address in self._table:
             for name in makes(self._table[address]):
@@ -198,6 +197,14 @@ class Program:
         read = [row[2] for row in self._table.values() if row[0] == "read"]
         written = [row[1] for row in self._table.values() if row[0] == "write"]
         return sorted(set(read + written))
+
+    def roads(self):
+        """The ways from its forks; they never change."""
+        return self._roads
+
+    def variants(self):
+        """The trees of its names; they never change."""
+        return self._variants
 
     def put(self, gap, row):
         """The Program with a row at a gap, ahead of what stands behind it."""

@@ -19,11 +19,11 @@ def _parts_of(rows):
     return tuple(parts)
 
 
-def _paths_of(program):
+def _paths_of(table):
     """The dict from the addresses of ifs, loops and leaves to their paths."""
     paths, passed = {}, {}
-    for address in program.addresses():
-        if program.row_at(address)[0] in FIRST_FORKS:
+    for address in table:
+        if table[address][0] in FIRST_FORKS:
             road, owner = address[:-1], address[:-2]
             index = passed.get(road, 0)
             passed[road] = index + 1
@@ -37,21 +37,28 @@ def _behind(address):
 
 
 class Roads:
-    """All ways of a program from a fork to the next one, of the forks that some choices come to."""
+    """All ways of a program from a fork to the next one, of the forks that some choices come to.
 
-    def __init__(self, program):
-        self._lists = {(): program.rows()}
-        self._rows = {}
-        for address in program.addresses():
-            row = program.row_at(address)
-            self._rows[address] = row
+    It is made of the rows, and of the dict from the ascending addresses to the rows at them.
+    """
+
+    def __init__(self, rows, table):
+        self._shape = _parts_of(rows)
+        self._lists = {(): rows}
+        self._rows = table
+        for address in table:
+            row = table[address]
             if row[0] in ("if", "loop"):
                 self._lists[address + (0,)] = row[1]
                 self._lists[address + (1,)] = row[2]
-        self._paths = _paths_of(program)
+        self._paths = _paths_of(table)
         self._addresses = {self._paths[address]: address for address in self._paths}
         self._ways = {}
         self._follow()
+
+    def shape(self):
+        """The skeleton."""
+        return self._shape
 
     def forks(self):
         """The ascending list of the forks that some choices come to."""
@@ -70,8 +77,8 @@ class Roads:
         return self._ways[fork][word][0]
 
     def done(self, fork, word):
-        """The list of tuples (address, deed) of what is done on this way; a deed is as in stretch."""
-        return list(self._ways[fork][word][1])
+        """The tuple of tuples (address, deed) of what is done on this way; a deed is as in stretch."""
+        return self._ways[fork][word][1]
 
     def place_of(self, fork):
         """The address of the row of a fork, None for the start and the end."""
@@ -96,7 +103,7 @@ class Roads:
         return address + (int(fork[0] == "again" or word == "no"), 0)
 
     def _way_from(self, gap):
-        """The tuple of the next fork behind a gap and the list of what is done on the way."""
+        """The tuple of the next fork behind a gap and the tuple of what is done on the way."""
         deeds, fork = [], None
         while fork is None:
             rows = self._lists[gap[:-1]]
@@ -107,7 +114,7 @@ class Roads:
             else:
                 deeds.append((gap, rows[gap[-1]]))
                 gap = _behind(gap)
-        return fork, deeds
+        return fork, tuple(deeds)
 
     def _out_of_list(self, road, deeds):
         """The tuple of the fork at the end of a list, None if there is none, and of the gap that comes then."""
@@ -129,11 +136,11 @@ def _is_fork_by_form(thing):
 
 def may_choose(fork, word):
     """Whether any value is a word that may be chosen at a fork."""
-    return word in words_at(fork)
+    return word in WORDS_AT.get(fork[0], ())
 
 
 def _roads_with(program, fork):
-    roads = Roads(program)
+    roads = program.roads()
     if not roads.has(fork):
         raise NoFork(fork)
     return roads
@@ -148,7 +155,7 @@ def _roads_along(program, fork, word):
 
 def skeleton(program):
     """The skeleton of a program."""
-    return _parts_of(program.rows())
+    return program.roads().shape()
 
 
 def is_comparable(one, other):
@@ -158,7 +165,7 @@ def is_comparable(one, other):
 
 def forks(program):
     """The ascending list of the forks that some choices come to."""
-    return Roads(program).forks()
+    return program.roads().forks()
 
 
 def words_at(fork):
@@ -197,7 +204,7 @@ def is_whole(program, thing):
     """Whether thing is a list or a tuple that is whole choices of a program."""
     if not isinstance(thing, (list, tuple)):
         return False
-    roads = Roads(program)
+    roads = program.roads()
     fork = roads.first_fork()
     for word in thing:
         if not may_choose(fork, word):
@@ -208,7 +215,7 @@ def is_whole(program, thing):
 
 def whole_choices(program, most):
     """All whole choices of at most so many words: those with fewer words first, then the lesser ones."""
-    roads = Roads(program)
+    roads = program.roads()
     begun = [([], roads.first_fork())]
     for _ in range(most + 1):
         longer = []

@@ -1,4 +1,4 @@
-"""The examples of the document under its first three stages."""
+"""The examples of the document under its first six stages."""
 
 import doctest
 import unittest
@@ -40,6 +40,42 @@ True
 [{'log': -1}, None]
 >>> lag_choices(four, Program(["a"], [("if", [], [], [])]))
 ['no']
+>>> from movedchecks.marks import faces, face_of, moment
+>>> from movedchecks.stands import stand, things
+>>> faces(("made", "f", (("seen", "disk"), ("seen", "disk"))))[0]
+('made', 'f', (('mark', 'disk', 0), ('mark', 'disk', 0)))
+>>> faces(("made", "f", (("seen", "disk"), ("seen", "disk"))))[1:]
+[('made', 'f', (('mark', 'disk', 0), ('mark', 'disk', 1)))]
+>>> [face_of([("seen", "disk", 7)]), moment(3, 1, 2), moment(3, 4, 2), moment(3, 4, 5)]
+[((('mark', 'disk', 0),), {('mark', 'disk', 0): 7}), 'later', '-1', 'gone']
+>>> [[thing[0] for thing in things(one, two)], things(one, two)[3]]
+[['check', 'check', 'order', 'write'], ('write', 'log', 0, ('in', 'a'))]
+>>> check = ("check", parsed)
+>>> [stand(one, one, check, {}, []), stand(one, two, check, {}, [])]
+['done', 'broken']
+>>> held = (("x", ("made", "parse", (("in", "a"),))),)
+>>> first = (("first", (0,)), ("0",), held, held, ())
+>>> stand(one, two, things(one, two)[0], {("mark", "disk", 0): 0}, []) == first
+True
+>>> from movedchecks.broken import breaking, first_broken
+>>> from movedchecks.followed import stands
+>>> from movedchecks.steps import beginning, behind
+>>> [beginning(one, two, check), behind(one, two, check, beginning(one, two, check)[0], "")]
+[[(('start', ()), (), (), (), ())], ([], True)]
+>>> [breaking(one, two, check) == (["out"], [parsed]), first_broken(one, two) == check]
+[True, True]
+>>> [len(stands(one, one, check)), first_broken(three, four)]
+[1, None]
+>>> from movedchecks.alike import are_alike, is_parting, parting
+>>> from movedchecks.tables import is_table, table
+>>> [are_alike(three, four), parting(one, two) == (["out"], [parsed])]
+[True, True]
+>>> is_parting(one, two, (["round", "out"], [parsed]))
+True
+>>> [table(three, four)[0] == lags(three, four), [len(stands) for thing, stands in table(three, four)[1]]]
+[True, [4]]
+>>> is_table(three, four, table(three, four))
+True
 """
 
 
@@ -49,7 +85,7 @@ class ExamplesTest(unittest.TestCase):
         told = []
         result = doctest.DocTestRunner().run(examples, out=told.append)
         self.assertEqual((result.failed, "".join(told)), (0, ""))
-        self.assertGreater(result.attempted, 20)
+        self.assertGreater(result.attempted, 40)
 
 
 if __name__ == "__main__":

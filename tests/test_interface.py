@@ -23,6 +23,17 @@ FUNCTIONS = {
                     "differences(one, other, choices)", "is_same(one, other, choices)",
                     "least_bad(one, other, choices)"],
     "lags": ["lags(one, other)", "lag_choices(one, other)", "greatest_lag(one, other)"],
+    "trees": ["trees(program, name)", "checked_trees(program)", "written_trees(program)", "tree_of(result)"],
+    "marks": ["faces(tree)", "faces_together(trees)", "marks(faces)", "parts(faces)", "filled(face, numbers)",
+              "face_of(results)", "moment(number, first, second)"],
+    "stands": ["things(one, other)", "stand(one, other, thing, numbers, choices, *, number=0)"],
+    "steps": ["beginning(one, other, thing)", "behind(one, other, thing, stand, word)"],
+    "forms": ["is_stand(one, other, thing, value)"],
+    "followed": ["stands(one, other, thing, *, most=2000)"],
+    "broken": ["breaking(one, other, thing, *, most=2000)", "first_broken(one, other, *, most=2000)"],
+    "alike": ["are_alike(one, other, *, most=2000)", "parting(one, other, *, most=2000)",
+              "is_parting(one, other, value)", "classes(programs, *, most=2000)"],
+    "tables": ["table(one, other, *, most=2000)", "is_table(one, other, value)", "is_lags(one, other, value)"],
 }
 CLASSES = {
     ("programs", "Program"): ["__init__(self, inputs, rows)", "__eq__(self, other)", "__len__(self)", "inputs(self)",

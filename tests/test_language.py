@@ -243,12 +243,19 @@ class ShapeTest(unittest.TestCase):
                 self.assertIn(ast.dump(node, include_attributes=True), allowed, place)
 
     def test_keywords_of_calls(self):
+        allowed = [("max", "default"), ("min", "default")]
+        for place, node in nodes(ast.FunctionDef):
+            allowed += [(node.name, argument.arg) for argument in node.args.kwonlyargs]
         for place, node in nodes(ast.Call):
             if isinstance(node.func, ast.Attribute):
                 self.assertEqual(node.keywords, [], place)
                 self.assertNotEqual(node.func.attr, "sort", place)
             for keyword in node.keywords:
-                self.assertIn((node.func.id, keyword.arg), [("max", "default"), ("min", "default")], place)
+                self.assertIn((node.func.id, keyword.arg), allowed, place)
+            for part in node.args:
+                if isinstance(part, ast.Starred):
+                    self.assertIsInstance(part.value, (ast.Name, ast.Attribute), place)
+                    self.assertIs(part, node.args[-1], place)
 
     def test_iterators_are_used_on_the_spot(self):
         allowed = []

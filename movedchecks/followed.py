@@ -19,7 +19,7 @@ class Followed:
         for stand in waiting:
             self._note(stand, None)
         while len(waiting) > 0:
-            waiting = [stand for elder in waiting for word in words_at(elder[0]) for stand in self._new(elder, word)]
+            waiting = [new for elder in waiting for word in words_at(elder[0]) for new in self._new(elder, word)]
 
     def _note(self, stand, step):
         self._before[stand] = step

@@ -8,8 +8,7 @@ MOST_ROUNDS = 2
 
 def written_channels(one, other):
     """The ascending list of the channels that a row of one of two programs writes."""
-    rows = [program.row_at(address) for program in (one, other) for address in program.addresses()]
-    return sorted(set([row[1] for row in rows if row[0] == "write"]))
+    return sorted(set([row[1] for row in one.rows_of("write") + other.rows_of("write")]))
 
 
 class Ways:
@@ -24,16 +23,12 @@ class Ways:
 
     def behind(self, fork, word, lag):
         """The fork to which a word leads, and the lags there, in the order of the channels."""
-        more = self._writes(self._roads, fork, word)
-        less = self._writes(self._others, fork, word)
+        more, less = self._roads.written(fork, word), self._others.written(fork, word)
         grown = [
             many + more.count(channel) - less.count(channel)
             for channel, many in zip(self.channels, lag)
         ]
         return self._roads.behind(fork, word), tuple(grown)
-
-    def _writes(self, roads, fork, word):
-        return [deed[1] for _, deed in roads.done(fork, word) if deed[0] == "write"]
 
     def beginning(self):
         """The lags at the start."""

@@ -194,9 +194,13 @@ class Program:
 
     def used_channels(self):
         """The ascending list of the channels that are read or written."""
-        read = [row[2] for row in self._table.values() if row[0] == "read"]
-        written = [row[1] for row in self._table.values() if row[0] == "write"]
+        read = [row[2] for row in self.rows_of("read")]
+        written = [row[1] for row in self.rows_of("write")]
         return sorted(set(read + written))
+
+    def rows_of(self, kind):
+        """The list of all rows of a kind, in the order of their addresses."""
+        return [row for row in self._table.values() if row[0] == kind]
 
     def roads(self):
         """The ways from its forks; they never change."""

@@ -80,6 +80,10 @@ class Roads:
         """The tuple of tuples (address, deed) of what is done on this way; a deed is as in stretch."""
         return self._ways[fork][word][1]
 
+    def written(self, fork, word):
+        """The tuple of the channels that are written on this way, each as often as it is."""
+        return self._ways[fork][word][2]
+
     def place_of(self, fork):
         """The address of the row of a fork, None for the start and the end."""
         return self._addresses.get(fork[1], None)
@@ -103,7 +107,7 @@ class Roads:
         return address + (int(fork[0] == "again" or word == "no"), 0)
 
     def _way_from(self, gap):
-        """The tuple of the next fork behind a gap and the tuple of what is done on the way."""
+        """The tuple of the next fork behind a gap, of what is done on the way, and of the channels written there."""
         deeds, fork = [], None
         while fork is None:
             rows = self._lists[gap[:-1]]
@@ -114,7 +118,7 @@ class Roads:
             else:
                 deeds.append((gap, rows[gap[-1]]))
                 gap = _behind(gap)
-        return fork, tuple(deeds)
+        return fork, tuple(deeds), tuple([deed[1] for _, deed in deeds if deed[0] == "write"])
 
     def _out_of_list(self, road, deeds):
         """The tuple of the fork at the end of a list, None if there is none, and of the gap that comes then."""

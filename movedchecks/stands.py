@@ -52,20 +52,16 @@ class Watch:
                 inner = tuple([self.index_of(below) for below in part[2]])
                 self._made[(part[1],) + inner] = self.index_of(part)
         self._whole = [self.index_of(face) for face in held]
+        self._marks = [(mark[1], self.index_of(mark)) for mark in self.marks]
         self._written = thing[1:3] if thing[0] == "write" else (None, None)
 
     def index_of(self, value):
         """The number of a part, None of any other value."""
         return self._indexes.get(repr(value), None)
 
-    def part_at(self, index):
-        """The part with a number."""
-        return self._parts[index]
-
     def inputs_of(self, program):
-        """The dict from the inputs of a program that are parts to their numbers."""
-        indexes = {name: self.index_of(("in", name)) for name in program.inputs}
-        return {name: indexes[name] for name in indexes if indexes[name] is not None}
+        """The dict from the inputs of a program to the numbers of the parts that they are, None for no part."""
+        return {name: self.index_of(("in", name)) for name in program.inputs}
 
     def read_at(self, numbers):
         """The dict from tuples (channel, number) to the numbers of the marks that stand for them.
@@ -73,13 +69,13 @@ class Watch:
         numbers are those of all marks in their order, None for a mark without one.
         """
         return {
-            (mark[1], number): self.index_of(mark)
-            for mark, number in zip(self.marks, numbers)
+            (channel, number): index
+            for (channel, index), number in zip(self._marks, numbers)
             if number is not None
         }
 
     def do(self, deeds, held, counts, read):
-        """Does deeds, by which held and counts change: dicts from names to parts, from channels to how often.
+        """Does deeds, by which held and counts change: dicts from names to numbers of parts, and from channels.
 
         Returns the tuple of the first check of a face and of the list of the truths of the writes that are followed.
         This first check is the tuple of the index of the face and of the counts ahead of it, None if there is none.

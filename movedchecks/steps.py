@@ -12,6 +12,11 @@ LATER = "later"
 GONE = "gone"
 
 
+def _grown(counts, written):
+    """The dict of how often channels were written, behind further writes."""
+    return {channel: counts[channel] + written.count(channel) for channel in counts}
+
+
 class Way:
     """The ways of two programs from a fork to the next one, and how often both have written ahead and behind."""
 
@@ -20,14 +25,10 @@ class Way:
         self.at_end = len(words_at(self.to)) == 0
         self.deeds = (one.roads().done(fork, word), other.roads().done(fork, word))
         self.ahead = ahead
-        self.behind = (self._counts_behind(0), self._counts_behind(1))
-
-    def _counts_behind(self, side):
-        counts = {channel: self.ahead[side][channel] for channel in self.ahead[side]}
-        for _, deed in self.deeds[side]:
-            if deed[0] == "write":
-                counts[deed[1]] += 1
-        return counts
+        self.behind = (
+            _grown(ahead[0], one.roads().written(fork, word)),
+            _grown(ahead[1], other.roads().written(fork, word)),
+        )
 
     def written_ahead(self, channel):
         """How often both had written a channel ahead of this way; perhaps no row writes it."""
@@ -52,12 +53,9 @@ class Both:
             raise NoLags()
         self.programs = (one, other)
         self.channels = written_channels(one, other)
-        self._names = [{fork: names_at(program, fork) for fork in self._lags} for program in self.programs]
-        self._ways = {
-            (fork, word): Way(one, other, fork, word, self._ahead_of(fork))
-            for fork in self._lags
-            for word in words_at(fork)
-        }
+        # What is asked for is kept: most is asked for again for each stand and each thing.
+        self._names = {}
+        self._ways = {}
 
     def _ahead_of(self, fork):
         # One is taken as if it had written nothing so far.
@@ -77,11 +75,15 @@ class Both:
         return self._lags[fork].get(channel, 0)
 
     def names(self, side, fork):
-        """The list of the names in sight at a fork that are made by rows of one of the programs."""
-        return list(self._names[side][fork])
+        """The tuple of the names in sight at a fork that are made by rows of one of the programs."""
+        if (side, fork) not in self._names:
+            self._names[(side, fork)] = tuple(names_at(self.programs[side], fork))
+        return self._names[(side, fork)]
 
     def way(self, fork, word):
         """The Way from a fork with a word."""
+        if (fork, word) not in self._ways:
+            self._ways[(fork, word)] = Way(self.programs[0], self.programs[1], fork, word, self._ahead_of(fork))
         return self._ways[(fork, word)]
 
 
@@ -132,9 +134,8 @@ class Steps:
             theirs = self._side(1, fork, word, others, numbers)
             told = self._moments_behind(way, moments, numbers)
             for after in self._seen_behind(way, seen, mine, theirs):
-                if after not in (DONE, BROKEN):
-                    after = (way.to, told, mine[0], theirs[0], after)
-                found.append((after, numbers))
+                following = (way.to, told, mine[0], theirs[0], after)
+                found.append((after if after in (DONE, BROKEN) else following, numbers))
         return found
 
     def _numberings_on(self, way, moments):

@@ -4,7 +4,6 @@ from movedchecks.broken import break_in
 from movedchecks.errors import Parted
 from movedchecks.followed import Followed
 from movedchecks.forms import Forms
-from movedchecks.kinds import is_integer
 from movedchecks.lags import lag_choices, lags
 from movedchecks.skeletons import words_at
 from movedchecks.stands import DONE, things
@@ -35,9 +34,7 @@ def _are_lags_at(value, told):
     """Whether any value is equal to a dict from channels to lags."""
     if not isinstance(value, dict) or len(value) != len(told):
         return False
-    return all([isinstance(channel, str) and channel in told for channel in value]) and all([
-        is_integer(value[channel]) and value[channel] == told[channel] for channel in value
-    ])
+    return all([channel in told and _is_equal(value[channel], told[channel]) for channel in value])
 
 
 def is_lags(one, other, value):
@@ -53,7 +50,8 @@ def is_lags(one, other, value):
 
 def _is_closed(steps, stands):
     """Whether a list of stands has all that come from the beginning and behind its own, and none can be broken."""
-    known = {stand: True for stand in [steps.known(stand) for stand in stands]}
+    told = [steps.known(stand) for stand in stands]
+    known = {stand: True for stand in told}
     if len(known) < len(stands):
         return False
     following = steps.beginning()

@@ -10,14 +10,9 @@ def trees(program, name):
     return program.variants().trees(name)
 
 
-def _rows_of(program, kind):
-    rows = [program.row_at(address) for address in program.addresses()]
-    return [row for row in rows if row[0] == kind]
-
-
 def checked_trees(program):
     """The ascending list of the different made trees of checked names."""
-    checked = [tree for row in _rows_of(program, "check") for tree in trees(program, row[1])]
+    checked = [tree for row in program.rows_of("check") for tree in trees(program, row[1])]
     return different([tree for tree in checked if tree[0] == "made"])
 
 
@@ -25,7 +20,7 @@ def written_trees(program):
     """The ascending list of the different tuples (channel, place, tree) of the args of writes."""
     return different([
         (row[1], place, tree)
-        for row in _rows_of(program, "write")
+        for row in program.rows_of("write")
         for place, name in enumerate(row[2])
         for tree in trees(program, name)
     ])

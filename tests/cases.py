@@ -5,6 +5,23 @@ import unittest
 from movedchecks.errors import MoveError
 from movedchecks.programs import Program
 
+A = ("in", "a")
+LEAVE, IF = ("leave",), ("if", [], [], [])
+LOG, OUT = ("write", "log", ["a"]), ("write", "out", ["a"])
+CHECK_X, CHECK_Y = ("check", "x"), ("check", "y")
+
+
+def made(word, *parts):
+    return ("made", word, parts)
+
+
+X, Y = made("f", A), made("g", A)
+
+
+def program(*rows):
+    """A program with the input a, in which x has the result X and y the result Y ahead of these rows."""
+    return Program(["a"], [("make", "x", "f", ["a"]), ("make", "y", "g", ["a"]), *rows])
+
 
 class Case(unittest.TestCase):
     def fails(self, error, call, *args, **fields):

@@ -12,26 +12,10 @@ from movedchecks.programs import Program
 from movedchecks.skeletons import is_whole
 from movedchecks.stands import things
 from tests import model, telling
-from tests.cases import Case, full_of_things, many_stands
+from tests.cases import (
+    A, CHECK_X, CHECK_Y, IF, LEAVE, LOG, OUT, X, Y, Case, full_of_things, made, many_stands, program
+)
 from tests.makers import Dense
-
-A = ("in", "a")
-LEAVE, IF = ("leave",), ("if", [], [], [])
-LOG, OUT = ("write", "log", ["a"]), ("write", "out", ["a"])
-CHECK_X, CHECK_Y = ("check", "x"), ("check", "y")
-
-
-def made(word, *parts):
-    return ("made", word, parts)
-
-
-X, Y = made("f", A), made("g", A)
-MAKES = [("make", "x", "f", ["a"]), ("make", "y", "g", ["a"])]
-
-
-def program(*rows):
-    return Program(["a"], MAKES + list(rows))
-
 
 class BreakingTest(Case):
     def told(self, one, other, thing, found):
@@ -69,13 +53,23 @@ class BreakingTest(Case):
 
     def test_words_to_the_end(self):
         rows = [("loop", [], [("if", [LEAVE], [IF], [])]), IF]
-        one = Program(["a"], MAKES + rows + [LOG])
+        one = program(*rows, LOG)
         broken = one.put((2, 1, 0), CHECK_X)
         self.told(one, broken, ("check", X), (["round", "yes"], [X]))
         found = breaking(one, one.put((2, 1, 0, 1, 1), CHECK_X), ("check", X))
         self.assertEqual((len(found[0]), found[1]), (5, [X]))
         found = breaking(one, one.put((4,), CHECK_X), ("check", X))
         self.assertIn(found, [(["out", word], [X]) for word in ("yes", "no")])
+
+    def test_fewest_words_in_all(self):
+        # The first break needs one word, but many more to an end; another one is ahead of an end.
+        one, other = [program(("if", [("if", [], rows, [])], [*rows, IF, IF, IF], []))
+                      for rows in ([CHECK_X, LOG], [LOG, CHECK_X])]
+        self.told(one, other, ("check", X), (["yes", "no"], [X]))
+        # From the fourth if the fewest words to an end are not those of the last word.
+        one, other = [program(IF, IF, IF, *rows, ("if", [IF, IF], [LEAVE], [])) for rows in ([CHECK_X, LOG], [LOG, CHECK_X])]
+        choices, bad = breaking(one, other, ("check", X))
+        self.assertEqual((len(choices), choices[3], bad), (4, "no", [X]))
 
     def test_numbers_of_marks(self):
         body = [("read", "r", "log"), ("make", "k", "f", ["r"]), LOG]

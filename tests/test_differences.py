@@ -4,11 +4,12 @@ import itertools
 import unittest
 
 from movedchecks.differences import differences, first_checks, is_same, least_bad, normal_form
-from movedchecks.errors import MoveError, Unlike
+from movedchecks.errors import BadChoices, MoveError, Unlike
 from movedchecks.playing import play
 from movedchecks.programs import Program
 from tests import model
 from tests.cases import Case
+from tests.makers import Dense
 
 A = ("in", "a")
 
@@ -173,6 +174,123 @@ class DifferencesTest(Case):
                           least_bad(one, turned, ["out"])], [[], True, None])
 
 
+def plain_checks(program, choices):
+    found, counts = [], {}
+    for kind, name, worth in model.Machine(program, choices).events:
+        if kind == "write":
+            counts[name] = counts.get(name, 0) + 1
+        elif kind == "check" and worth[0] == "made" and worth not in [result for result, _ in found]:
+            found.append((worth, tuple(sorted(counts.items()))))
+    return found
+
+
+def plain_form(program, choices):
+    lots = []
+    for (counts, word), checks in itertools.groupby(plain_checks(program, choices), lambda check: (check[1], check[0][1])):
+        lots.append((counts, word, sorted(result for result, _ in checks)))
+    return model.Machine(program, choices).writes, lots
+
+
+def plain_differences(one, other, choices):
+    """What is unlike, by the definition, word by word."""
+    mine, theirs = plain_checks(one, choices), plain_checks(other, choices)
+    here, there = [check[0] for check in mine], [check[0] for check in theirs]
+    found = [("check", result) for result in here + there if (result in here) != (result in there)]
+    found += [("check", result) for result, counts in mine if result in there and (result, counts) not in theirs]
+    found += [
+        ("order", first, second) for first in here for second in here
+        if first in there and second in there and first < second and first[1] != second[1]
+        and (here.index(first) < here.index(second)) != (there.index(first) < there.index(second))
+    ]
+    some, others = model.Machine(one, choices).writes, model.Machine(other, choices).writes
+    for channel in sorted({*some, *others}):
+        rows = list(itertools.zip_longest(some.get(channel, []), others.get(channel, [])))
+        at = [index for index, (left, right) in enumerate(rows) if left != right]
+        found += [("write", channel, index) for index in at[:1]]
+    return sorted(found)
+
+
+def parting_results(one, other, choices, most=2):
+    """All lists of at most so many bad results with which not the same is seen, fewer ones first, then lesser ones."""
+    checked = sorted({result for told in (one, other) for result, _ in plain_checks(told, choices)})
+    return [
+        list(bad) for many in range(min(most, len(checked)) + 1) for bad in itertools.combinations(checked, many)
+        if model.Machine(one, choices, bad).seen() != model.Machine(other, choices, bad).seen()
+    ]
+
+
+class SixteenRowsTest(unittest.TestCase):
+    """All answers along all whole choices of up to six words, against a plain telling."""
+
+    def pair(self, seed):
+        maker = Dense(seed)
+        one = maker.dense()
+        while len(one) < 16:
+            one = maker.dense()
+        return one, maker.changed(one, 3) if seed % 3 == 0 else maker.near(one, seed % 5)
+
+    def answers(self, one, other, words):
+        return [first_checks(one, words), normal_form(one, words), differences(one, other, words),
+                is_same(one, other, words), least_bad(one, other, words)]
+
+    def plain(self, one, other, words):
+        bad = parting_results(one, other, words)
+        unlike = plain_differences(one, other, words)
+        return [plain_checks(one, words), plain_form(one, words), unlike, not unlike, bad[0] if bad else None]
+
+    def test_all_choices_of_six_words(self):
+        kinds = set()
+        for seed in range(36):
+            one, other = self.pair(seed)
+            for words in model.whole_up_to(one, 6):
+                for both in ((one, other), (other, one)):
+                    told = self.plain(*both, words)
+                    for _ in range(2):
+                        found = self.answers(*both, words)
+                        self.assertEqual(found, told)
+                        self.assertEqual(list(found[1][0]), sorted(found[1][0]))
+                        for part in (found[0], found[1][1], found[2], found[4] or []):
+                            part.append(1)
+                        found[1][0]["c"] = [1]
+                    kinds.add(None if told[4] is None else len(told[4]))
+        self.assertEqual(kinds, {None, 0, 1, 2})
+
+    def test_two_pairs_by_turns(self):
+        for seed in range(8):
+            pairs = [self.pair(seed), self.pair(seed + 8)]
+            roads = [model.whole_up_to(one, 6) for one, _ in pairs]
+            told = [[self.plain(*both, words) for words in part] for both, part in zip(pairs, roads)]
+            for index in range(min(12, *map(len, roads))):
+                for place in (0, 1, 0, 1):
+                    self.assertEqual(self.answers(*pairs[place], roads[place][index]), told[place][index])
+
+    def test_arguments_stay(self):
+        one, other = self.pair(3)
+        rows = one.rows(), other.rows()
+        for words in model.whole_up_to(one, 4):
+            kept = list(words)
+            self.answers(one, other, words)
+            self.assertEqual(words, kept)
+        self.assertEqual((one.rows(), other.rows()), rows)
+
+    def test_wrong_choices(self):
+        one, other = self.pair(3)
+        for words in model.choices_up_to(one, 4):
+            if model.Machine(one, words).end is None:
+                for call in (differences, is_same, least_bad):
+                    with self.assertRaises(BadChoices) as caught:
+                        call(one, other, words)
+                    self.assertEqual(caught.exception.at, len(words))
+                with self.assertRaises(BadChoices) as caught:
+                    normal_form(one, words)
+                self.assertEqual(caught.exception.at, len(words))
+            else:
+                for call in (differences, is_same, least_bad):
+                    with self.assertRaises(BadChoices) as caught:
+                        call(one, other, words + ["yes"])
+                    self.assertEqual(caught.exception.at, len(words))
+
+
 class GuaranteesTest(unittest.TestCase):
     """Points 5, 8, 11 and 12, as far as they speak of single runs, on random programs."""
 
@@ -184,21 +302,10 @@ class GuaranteesTest(unittest.TestCase):
             for choices in model.whole_up_to(one, 5)[:most]:
                 yield maker, one, other, choices
 
-    def checked(self, program, choices):
-        found = []
-        for event in model.Machine(program, choices).events:
-            if event[0] == "check" and event[2][0] == "made" and event[2] not in found:
-                found.append(event[2])
-        return found
-
     def test_one_run(self):
         kinds = set()
         for _, one, other, choices in self.pairs(range(150)):
-            results = sorted({*self.checked(one, choices), *self.checked(other, choices)})
-            unlike = [
-                list(bad) for many in range(len(results) + 1) for bad in itertools.combinations(results, many)
-                if model.Machine(one, choices, bad).seen() != model.Machine(other, choices, bad).seen()
-            ]
+            unlike = parting_results(one, other, choices, 20)
             self.assertIs(is_same(one, other, choices), not unlike)
             self.assertIs(normal_form(one, choices) == normal_form(other, choices), not unlike)
             bad = least_bad(one, other, choices)
@@ -210,23 +317,7 @@ class GuaranteesTest(unittest.TestCase):
 
     def test_differences_by_their_definition(self):
         for _, one, other, choices in self.pairs(range(150, 260)):
-            mine, theirs = first_checks(one, choices), first_checks(other, choices)
-            here, there = [check[0] for check in mine], [check[0] for check in theirs]
-            found = [("check", result) for result in here + there if (result in here) != (result in there)]
-            found += [
-                ("check", result) for result, counts in mine if result in there and (result, counts) not in theirs
-            ]
-            found += [
-                ("order", first, second) for first in here for second in here
-                if first in there and second in there and first < second and first[1] != second[1]
-                and (here.index(first) < here.index(second)) != (there.index(first) < there.index(second))
-            ]
-            some, others = model.Machine(one, choices).writes, model.Machine(other, choices).writes
-            for channel in sorted({*some, *others}):
-                rows = list(itertools.zip_longest(some.get(channel, []), others.get(channel, [])))
-                at = [index for index, (left, right) in enumerate(rows) if left != right]
-                found += [("write", channel, index) for index in at[:1]]
-            self.assertEqual(differences(one, other, choices), sorted(found))
+            self.assertEqual(differences(one, other, choices), plain_differences(one, other, choices))
 
     def test_two_checks_with_a_write_between_them(self):
         for _, one, other, choices in self.pairs(range(120)):

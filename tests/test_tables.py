@@ -306,7 +306,8 @@ class IsLagsTest(Case):
             held = lags(one, other)
             for _ in range(2):
                 self.assertIs(is_lags(one, other, held), held is not None)
-            self.assertIs(is_lags(one, other, None), False)
+            for value in (None, {}, {("start", ()): {}}):
+                self.assertIs(is_lags(one, other, value), False)
             if held is not None:
                 turned = {fork: dict(list(row.items())[::-1]) for fork, row in list(held.items())[::-1]}
                 self.assertIs(is_lags(one, other, turned), True)

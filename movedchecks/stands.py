@@ -52,7 +52,7 @@ class Watch:
                 inner = tuple([self.index_of(below) for below in part[2]])
                 self._made[(part[1],) + inner] = self.index_of(part)
         self._whole = [self.index_of(face) for face in held]
-        self._marks = [(mark[1], self.index_of(mark)) for mark in self.marks]
+        self._mark_indexes = [(mark[1], self.index_of(mark)) for mark in self.marks]
         self._written = thing[1:3] if thing[0] == "write" else (None, None)
 
     def index_of(self, value):
@@ -70,12 +70,12 @@ class Watch:
         """
         return {
             (channel, number): index
-            for (channel, index), number in zip(self._marks, numbers)
+            for (channel, index), number in zip(self._mark_indexes, numbers)
             if number is not None
         }
 
     def do(self, deeds, held, counts, read):
-        """Does deeds, by which held and counts change: dicts from names to numbers of parts, and from channels.
+        """Does deeds, by which held changes, the dict from names to parts, and counts, that from channels to writes.
 
         Returns the tuple of the first check of a face and of the list of the truths of the writes that are followed.
         This first check is the tuple of the index of the face and of the counts ahead of it, None if there is none.

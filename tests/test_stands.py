@@ -106,9 +106,12 @@ class StandTest(Case):
     def told(self, one, other, thing, numbers, choices, found, turned=None, **number):
         kept = (dict(numbers), list(choices))
         for pair, wanted in (((one, other), found), ((other, one), turned)):
-            for words in (choices, tuple(choices)):
-                if wanted is not None:
-                    self.assertEqual(stand(*pair, thing, numbers, words, **number), wanted)
+            for words in (choices, tuple(choices)) if wanted is not None else ():
+                self.assertEqual(stand(*pair, thing, numbers, words, **number), wanted)
+                given = dict(numbers), list(words)
+                self.assertEqual(stand(*pair, thing, *given, **number), wanted)
+                given[0].clear(), given[1].clear()
+                self.assertEqual(stand(*pair, thing, numbers, words, **number), wanted)
         self.assertEqual((numbers, list(choices)), kept)
 
     def test_where_choices_lead(self):

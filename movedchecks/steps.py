@@ -113,6 +113,8 @@ class Steps:
         self._watch = Watch(thing)
         self._thing = thing
         self._inputs = [self._watch.inputs_of(program) for program in both.programs]
+        # Many stands have the same moments, or the same names on one side: what comes of these is kept.
+        self._cases = {}
         self._sides = {}
 
     def beginning(self):
@@ -129,14 +131,22 @@ class Steps:
         fork, moments, holds, others, seen = stand
         way = self._both.way(fork, word)
         found = []
-        for numbers in self._numberings_on(way, moments):
+        for numbers, told in self._cases_of(fork, word, moments):
             mine = self._side(0, fork, word, holds, numbers)
             theirs = self._side(1, fork, word, others, numbers)
-            told = self._moments_behind(way, moments, numbers)
             for after in self._seen_behind(way, seen, mine, theirs):
                 following = (way.to, told, mine[0], theirs[0], after)
                 found.append((after if after in (DONE, BROKEN) else following, numbers))
         return found
+
+    def _cases_of(self, fork, word, moments):
+        """The list of tuples (numbers, moments behind) of all numbers that marks with these moments can have."""
+        key = (fork, word, moments)
+        if key not in self._cases:
+            way = self._both.way(fork, word)
+            cases = self._numberings_on(way, moments)
+            self._cases[key] = [(numbers, self._moments_behind(way, moments, numbers)) for numbers in cases]
+        return self._cases[key]
 
     def _numberings_on(self, way, moments):
         choices = []
@@ -155,7 +165,7 @@ class Steps:
             way = self._both.way(fork, word)
             held = dict(holds)
             held.update(self._inputs[side])
-            counts = {channel: way.ahead[side][channel] for channel in self._both.channels}
+            counts = dict(way.ahead[side])
             first, truths = self._watch.do(way.deeds[side], held, counts, self._watch.read_at(numbers))
             self._sides[key] = (holds_of(self._both.names(side, way.to), held), first, truths)
         return self._sides[key]

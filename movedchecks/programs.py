@@ -5,7 +5,7 @@ from movedchecks.errors import (
 )
 from movedchecks.kinds import are_names, is_address, is_name
 from movedchecks.rows import (
-    are_rows, count, depth, frozen, is_row, lists_of, makes, renamed, uses, with_lists
+    are_rows, count, depth, frozen, held_lists, is_row, lists_of, makes, renamed, uses, with_lists
 )
 from movedchecks.skeletons import Roads
 from movedchecks.variants import Variants
@@ -23,7 +23,7 @@ def _lists_at(rows, road):
     """The list of tuples (road, list of rows) of this list and of all in it; a road leads to a list."""
     found = [(road, rows)]
     for index, row in enumerate(rows):
-        for number, part in enumerate(lists_of(row)):
+        for number, part in enumerate(held_lists(row)):
             found.extend(_lists_at(part, road + (index, number)))
     return found
 
@@ -43,7 +43,7 @@ def _note_sights(rows, road, seen, sights):
         here = road + (index,)
         sights[here] = seen
         inner = seen
-        for number, part in enumerate(lists_of(row)):
+        for number, part in enumerate(held_lists(row)):
             end = _note_sights(part, here + (number,), inner, sights)
             # What once makes is in sight in the body; yes and no see nothing of one another.
             inner = end if row[0] == "loop" else seen

@@ -58,11 +58,14 @@ def frozen(row):
     return tuple(row)
 
 
+def held_lists(row):
+    """The tuple of the lists 0 and 1 of a row as they stand in it, an empty one if it has none."""
+    return row[1:3] if row[0] in ("if", "loop") else ()
+
+
 def lists_of(row):
     """The list of the lists 0 and 1 of a row, no list if it has none."""
-    if row[0] not in ("if", "loop"):
-        return []
-    return [[frozen(inner) for inner in part] for part in row[1:3]]
+    return [[frozen(inner) for inner in part] for part in held_lists(row)]
 
 
 def with_lists(row, lists):
@@ -118,10 +121,10 @@ def renamed(row, names):
 
 def count(rows):
     """The number of rows in a list of rows, those in their lists too."""
-    inner = [count(part) for row in rows for part in lists_of(row)]
+    inner = [count(part) for row in rows for part in held_lists(row)]
     return len(rows) + sum(inner)
 
 
 def depth(rows):
     """How deep lists are within one another in a list of rows: 1 if no row has lists."""
-    return 1 + max([depth(part) for row in rows for part in lists_of(row)], default=0)
+    return 1 + max([depth(part) for row in rows for part in held_lists(row)], default=0)

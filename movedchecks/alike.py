@@ -24,6 +24,23 @@ def are_alike(one, other, *, most=2000):
     return parting(one, other, most=most) is None
 
 
+class Alikes:
+    """Which programs are alike to one; equal programs are compared once."""
+
+    def __init__(self, program, most):
+        self._program = program
+        self._most = most
+        self._known = {}
+
+    def has(self, other):
+        """Whether a program is alike to this one; its inputs are the same."""
+        # Rows nest too deep for keys of dicts.
+        key = repr(other.rows())
+        if key not in self._known:
+            self._known[key] = are_alike(self._program, other, most=self._most)
+        return self._known[key]
+
+
 def is_parting(one, other, value):
     """Whether any value is a tuple of whole choices and of bad results that part two programs."""
     if not is_comparable(one, other):

@@ -5,7 +5,7 @@ from movedchecks.errors import (
 )
 from movedchecks.kinds import are_names, is_address, is_name
 from movedchecks.rows import (
-    are_rows, count, depth, frozen, held_lists, is_row, lists_of, makes, renamed, uses, with_lists
+    are_rows, count, depth, frozen, held_lists, is_plain, is_row, makes, rearranged, renamed, uses
 )
 from movedchecks.skeletons import Roads
 from movedchecks.variants import Variants
@@ -99,24 +99,6 @@ def _check_sights(table, sights):
             raise Unseen(address, name)
 
 
-def _spliced(rows, gap, many, new):
-    """The list of rows in which new stands at a gap, in the place of the next so many rows."""
-    index = gap[0]
-    if len(gap) == 1:
-        return rows[:index] + new + rows[index + many:]
-    lists = lists_of(rows[index])
-    lists[gap[1]] = _spliced(lists[gap[1]], gap[2:], many, new)
-    return rows[:index] + [with_lists(rows[index], lists)] + rows[index + 1:]
-
-
-def _behind_new_row(address, gap):
-    """Where the row at an address is when another row has been put at a gap."""
-    last = len(gap) - 1
-    if address[:last] != gap[:last] or address[last] < gap[last]:
-        return address
-    return address[:last] + (address[last] + 1,) + address[last + 1:]
-
-
 class Program:
     """A program; it never changes."""
 
@@ -166,9 +148,27 @@ class Program:
         """The ascending list of the addresses of all rows."""
         return list(self._table)
 
+    def has_row(self, thing):
+        """Whether any value is the address of a row."""
+        return is_address(thing) and thing in self._table
+
+    def has_plain_row(self, thing):
+        """Whether any value is the address of a plain row."""
+        return self.has_row(thing) and is_plain(self._table[thing])
+
+    def has_gap(self, thing):
+        """Whether any value is a gap."""
+        return is_address(thing) and thing in self._sights
+
+    def plain_row_at(self, address):
+        """The plain row at an address."""
+        if not self.has_plain_row(address):
+            raise NoRow(address)
+        return self._table[address]
+
     def row_at(self, address):
         """The row at an address."""
-        if not self._has_row(address):
+        if not self.has_row(address):
             raise NoRow(address)
         return self._table[address]
 
@@ -178,7 +178,7 @@ class Program:
 
     def in_sight(self, gap):
         """The ascending list of the names in sight at a gap, inputs too."""
-        if not self._has_gap(gap):
+        if not self.has_gap(gap):
             raise NoGap(gap)
         return sorted(self._sights[gap])
 
@@ -216,33 +216,30 @@ class Program:
             raise Wrong(0)
         if not is_row(row):
             raise Wrong(1)
-        if not self._has_gap(gap):
+        if not self.has_gap(gap):
             raise NoGap(gap)
-        return Program(self._inputs, _spliced(self.rows(), gap, 0, [row]))
+        return self.rearranged({}, {gap: [row]})
 
     def out(self, address):
         """The Program without a row and all that stands in its lists."""
-        if not self._has_row(address):
+        if not self.has_row(address):
             raise NoRow(address)
-        return Program(self._inputs, _spliced(self.rows(), address, 1, []))
+        return self.rearranged({address: True}, {})
 
     def moved(self, address, gap):
         """The Program in which the row at an address is at a gap, told with the row where it is now."""
-        if not self._has_row(address):
+        if not self.has_row(address):
             raise NoRow(address)
-        if not self._has_gap(gap):
+        if not self.has_gap(gap):
             raise NoGap(gap)
         if len(gap) > len(address) and gap[:len(address)] == address:
             raise Inside(gap)
-        both = _spliced(self.rows(), gap, 0, [self._table[address]])
-        return Program(self._inputs, _spliced(both, _behind_new_row(address, gap), 1, []))
+        return self.rearranged({address: True}, {gap: [self._table[address]]})
+
+    def rearranged(self, gone, coming):
+        """The Program without the rows at the keys of gone, and with the rows that coming has for gaps."""
+        return Program(self._inputs, rearranged(self._rows, gone, coming))
 
     def renamed(self, names):
         """The Program with other names; the dict has one for each input and each made name."""
         return Program([names[name] for name in self._inputs], [renamed(row, names) for row in self._rows])
-
-    def _has_row(self, address):
-        return is_address(address) and address in self._table
-
-    def _has_gap(self, gap):
-        return is_address(gap) and gap in self._sights

@@ -30,13 +30,14 @@ def is_result(thing):
     return True
 
 
+def are_made(thing):
+    """Whether thing is a list or a tuple of made results, the same ones perhaps."""
+    return isinstance(thing, (list, tuple)) and all([is_result(part) and part[0] == "made" for part in thing])
+
+
 def are_bad(thing):
     """Whether thing is a list or a tuple of different made results."""
-    if not isinstance(thing, (list, tuple)):
-        return False
-    if not all([is_result(result) and result[0] == "made" for result in thing]):
-        return False
-    return len(different(thing)) == len(thing)
+    return are_made(thing) and len(different(thing)) == len(thing)
 
 
 def different(results):

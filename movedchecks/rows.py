@@ -3,6 +3,7 @@
 from movedchecks.kinds import are_names, is_name
 
 MOST_ARGS = 3
+PLAIN_KINDS = ("make", "read", "check", "write")
 
 
 def _is_join(thing):
@@ -61,6 +62,11 @@ def frozen(row):
 def held_lists(row):
     """The tuple of the lists 0 and 1 of a row as they stand in it, an empty one if it has none."""
     return row[1:3] if row[0] in ("if", "loop") else ()
+
+
+def is_plain(row):
+    """Whether a row is a make, a read, a check or a write."""
+    return row[0] in PLAIN_KINDS
 
 
 def lists_of(row):
@@ -128,3 +134,23 @@ def count(rows):
 def depth(rows):
     """How deep lists are within one another in a list of rows: 1 if no row has lists."""
     return 1 + max([depth(part) for row in rows for part in held_lists(row)], default=0)
+
+
+def rearranged(rows, gone, coming, road=()):
+    """A list of rows in which some are left out and others come in, all at once; road leads to this list.
+
+    gone is a dict whose keys are the addresses of the rows that are left out, coming one from gaps to the lists of
+    the rows that come there; both tell addresses and gaps as they are in the rows that are given.
+    """
+    found = []
+    for index, row in enumerate(rows):
+        here = road + (index,)
+        found.extend(coming.get(here, ()))
+        if here not in gone:
+            lists = [
+                rearranged(part, gone, coming, here + (number,))
+                for number, part in enumerate(held_lists(row))
+            ]
+            found.append(with_lists(row, lists))
+    found.extend(coming.get(road + (len(rows),), ()))
+    return found

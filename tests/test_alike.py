@@ -19,6 +19,7 @@ from tests.cases import (
     A, CHECK_X, CHECK_Y, IF, LEAVE, LOG, OUT, X, Y, Case, altered, full_of_things, made, many_stands, program
 )
 from tests.makers import Dense
+from tests.sheets import with_words
 from tests.values import any_values
 
 
@@ -366,22 +367,11 @@ class AllRunsTest(AlikeCase):
                 self.assertEqual(things(new, other), things(one, other))
                 self.assertEqual(first_broken(new, other), first_broken(one, other))
 
-    def exchanged(self, row, table):
-        """The row with other inputs, words and channels."""
-        if row[0] in ("if", "loop"):
-            lists = [[self.exchanged(inner, table) for inner in part] for part in row[1:3]]
-            joins = [[tuple([table.get(name, name) for name in join]) for join in part] for part in row[3:]]
-            return (row[0], *lists, *joins)
-        return tuple([
-            tuple([table.get(name, name) for name in part]) if isinstance(part, tuple) else table.get(part, part) if place else part
-            for place, part in enumerate(row)
-        ])
-
     def test_inputs_words_and_channels(self):
         table = {"a": "b", "b": "a", "f": "g", "g": "f", "c": "d", "d": "c"}
         for seed in range(50):
             one, other = some_pair(seed)
-            new = [Program(part.inputs, [self.exchanged(row, table) for row in part.rows()]) for part in (one, other)]
+            new = [Program(part.inputs, [with_words(row, table) for row in part.rows()]) for part in (one, other)]
             self.assertIs(are_alike(*new), are_alike(one, other))
             if lags(one, other) is not None:
                 turned = {fork: {table[name]: many for name, many in row.items()} for fork, row in lags(one, other).items()}

@@ -1,4 +1,4 @@
-"""The examples of the document under its first six stages."""
+"""The examples of the document under its first eight stages."""
 
 import doctest
 import unittest
@@ -76,6 +76,22 @@ True
 [True, [4]]
 >>> is_table(three, four, table(three, four))
 True
+>>> from movedchecks.joins import spare
+>>> from movedchecks.passes import can_pass
+>>> from movedchecks.places import places, reach
+>>> [places(one, (2,)), len(reach(one, (2,))), can_pass(save[1], save[2]), can_pass(("read", "r", "disk"), save[1])]
+[[(2,), (3,)], 9, False, True]
+>>> twice = Program(["a"], save + [("check", "x")])
+>>> spare(twice)
+[(2,), (3,)]
+>>> from movedchecks.compilers import outcomes, unsound
+>>> from movedchecks.lots import barring, right_lots
+>>> deeds = [("out", (2,)), ("out", (3,))]
+>>> [right_lots(twice, deeds), barring(twice, deeds)]
+[[[], [0], [1]], [(0, 1)]]
+>>> rule = ("pass", "write", "check")
+>>> [outcomes(one, [rule]) == [one, two], unsound(one, [rule]) == ([(rule, (1,))], ["out"], [parsed])]
+[True, True]
 """
 
 

@@ -34,6 +34,18 @@ FUNCTIONS = {
     "alike": ["are_alike(one, other, *, most=2000)", "parting(one, other, *, most=2000)",
               "is_parting(one, other, value)", "classes(programs, *, most=2000)"],
     "tables": ["table(one, other, *, most=2000)", "is_table(one, other, value)", "is_lags(one, other, value)"],
+    "places": ["reach(program, address)", "places(program, address, *, most=2000)",
+               "earliest(program, address, *, most=2000)", "place_parting(program, address, gap, *, most=2000)"],
+    "passes": ["can_pass(first, second)", "barrier(first, second)", "exchanged(program, address)",
+               "risen(program, address)"],
+    "joins": ["pairs(program)", "joinable(program, *, most=2000)", "spare(program, *, most=2000)",
+              "joined(program, pair)"],
+    "lots": ["done(program, deeds)", "right_lots(program, deeds, *, most=2000)",
+             "greatest_lots(program, deeds, *, most=2000)", "barring(program, deeds, *, most=2000)",
+             "needing(program, deeds, *, most=2000)", "lot_parting(program, deeds, lot, *, most=2000)"],
+    "compilers": ["steps(program, compiler)", "stepped(program, step)", "outcomes(program, compiler, *, texts=40)",
+                  "is_sound(program, compiler, *, texts=40, most=2000)",
+                  "unsound(program, compiler, *, texts=40, most=2000)"],
 }
 CLASSES = {
     ("programs", "Program"): ["__init__(self, inputs, rows)", "__eq__(self, other)", "__len__(self)", "inputs(self)",

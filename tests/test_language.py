@@ -33,7 +33,7 @@ WORDS = set(
 )
 STATEMENTS = (
     ast.FunctionDef, ast.ClassDef, ast.Return, ast.Assign, ast.AugAssign, ast.For, ast.While, ast.If, ast.Raise,
-    ast.Expr, ast.Pass, ast.Break, ast.Continue, ast.ImportFrom, ast.Delete,
+    ast.Expr, ast.Pass, ast.Break, ast.Continue, ast.ImportFrom, ast.Delete, ast.Try,
 )
 NO_EXPRESSIONS = (ast.Await, ast.Set, ast.SetComp, ast.NamedExpr, ast.GeneratorExp, ast.JoinedStr)
 
@@ -221,12 +221,28 @@ class ShapeTest(unittest.TestCase):
                 self.assertEqual([part.id for part in node.decorator_list], ["property"] * len(node.decorator_list))
             if isinstance(node, ast.Raise):
                 self.assertIsInstance(node.exc, ast.Call, place)
+                self.assertTrue(node.cause is None or ast.unparse(node.cause) == "None", place)
         for place, node in nodes(ast.expr):
             self.assertNotIsInstance(node, NO_EXPRESSIONS, place)
             if isinstance(node, ast.BinOp):
                 self.assertNotIsInstance(node.op, (ast.Div, ast.Pow, ast.MatMult), place)
             if isinstance(node, ast.Compare) and any(isinstance(sign, (ast.Is, ast.IsNot)) for sign in node.ops):
                 self.assertIsInstance(node.comparators[0], ast.Constant, place)
+
+    def test_own_errors_alone_are_caught(self):
+        errors = ast.parse((PACKAGE / "errors.py").read_text())
+        own = {node.name for node in errors.body if isinstance(node, ast.ClassDef)}
+        for place, node in nodes(ast.ExceptHandler):
+            caught = node.type.elts if isinstance(node.type, ast.Tuple) else [node.type]
+            self.assertLessEqual({part.id for part in caught}, own, place)
+            self.assertIsNone(node.name, place)
+
+    def test_what_is_done_in_any_case_is_plain(self):
+        for place, node in nodes(ast.Try):
+            for part in node.finalbody:
+                self.assertIsInstance(part, ast.Assign, place)
+                for inner in ast.walk(part):
+                    self.assertIsInstance(inner, (ast.Assign, ast.Tuple, ast.Attribute, ast.Name, ast.expr_context), place)
 
     def test_nothing_is_nested_in_functions(self):
         for place, node in nodes(ast.FunctionDef):

@@ -1,4 +1,4 @@
-"""The examples of the document under its first eight stages."""
+"""The examples of the document, one behind another as they stand there."""
 
 import doctest
 import unittest
@@ -92,6 +92,18 @@ True
 >>> rule = ("pass", "write", "check")
 >>> [outcomes(one, [rule]) == [one, two], unsound(one, [rule]) == ([(rule, (1,))], ["out"], [parsed])]
 [True, True]
+>>> from movedchecks.sides import Sides
+>>> both = Sides(one, two, [parsed])
+>>> [both.at_fork(), both.seen()[1], both.is_parted()]
+[('first', (0,)), ({}, ('error', 'parse')), True]
+>>> from movedchecks.book import Book
+>>> from movedchecks.desk import Desk
+>>> book, desk = Book(one), Desk(one)
+>>> book.do(("move", (2,), (1,)))
+>>> [book.program == two, len(book), book.back(), len(book)]
+[True, 1, ('move', (2,), (1,)), 0]
+>>> [desk.execute("move 2 1"), desk.execute("alike"), desk.execute("parting"), desk.execute("play out parse(a)")]
+['ok', 'no', 'out parse(a)', 'error parse\\n']
 """
 
 

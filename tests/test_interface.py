@@ -46,6 +46,10 @@ FUNCTIONS = {
     "compilers": ["steps(program, compiler)", "stepped(program, step)", "outcomes(program, compiler, *, texts=40)",
                   "is_sound(program, compiler, *, texts=40, most=2000)",
                   "unsound(program, compiler, *, texts=40, most=2000)"],
+    "notation": ["show_row(row)", "show_program(program)", "show_address(address)", "show_choices(choices)",
+                 "show_result(result)", "show_seen(seen)", "show_deed(deed)"],
+    "readers": ["read_row(text)", "read_program(text)", "read_address(text)", "read_choices(text)",
+                "read_result(text)", "read_deed(text)"],
 }
 CLASSES = {
     ("programs", "Program"): ["__init__(self, inputs, rows)", "__eq__(self, other)", "__len__(self)", "inputs(self)",
@@ -56,6 +60,14 @@ CLASSES = {
     ("playing", "Run"): ["__init__(self, program, bad=())", "__eq__(self, other)", "go(self, word)", "back(self)",
                          "fork(self)", "end(self)", "choices(self)", "events(self)", "written(self)",
                          "results(self)", "copied(self)"],
+    ("sides", "Sides"): ["__init__(self, one, other, bad=())", "__eq__(self, other)", "__len__(self)",
+                         "go(self, word)", "back(self)", "at_fork(self)", "choices(self)", "checked(self, side)",
+                         "seen(self)", "lag(self, channel)", "is_parted(self)", "copied(self)"],
+    ("book", "Book"): ["__init__(self, program)", "__eq__(self, other)", "__len__(self)", "program(self)",
+                       "first(self)", "do(self, deed)", "back(self)", "again(self)", "past(self, many)",
+                       "copied(self)", "log(self)", "is_safe(self, *, most=2000)", "parting(self, *, most=2000)",
+                       "trial(self, act)"],
+    ("desk", "Desk"): ["__init__(self, program)", "execute(self, line)"],
 }
 
 
@@ -84,7 +96,10 @@ class InterfaceTest(unittest.TestCase):
             self.assertLessEqual(set(listed), found, name)
 
     def test_properties_and_the_generator(self):
-        for module, name, fields in (("programs", "Program", ["inputs"]), ("playing", "Run", ["end", "fork"])):
+        for module, name, fields in (
+            ("programs", "Program", ["inputs"]), ("playing", "Run", ["end", "fork"]), ("sides", "Sides", []),
+            ("book", "Book", ["first", "program"]), ("desk", "Desk", []),
+        ):
             made = getattr(importlib.import_module(f"movedchecks.{module}"), name)
             found = [field for field, thing in vars(made).items() if isinstance(thing, property)]
             self.assertEqual(sorted(found), fields)
@@ -93,8 +108,10 @@ class InterfaceTest(unittest.TestCase):
 
     def test_objects_are_not_iterated_over(self):
         program = importlib.import_module("movedchecks.programs").Program([], [])
-        run = importlib.import_module("movedchecks.playing").Run(program)
-        for thing in (program, run):
+        things = [program, importlib.import_module("movedchecks.sides").Sides(program, program)]
+        for module, name in (("playing", "Run"), ("book", "Book"), ("desk", "Desk")):
+            things.append(getattr(importlib.import_module(f"movedchecks.{module}"), name)(program))
+        for thing in things:
             self.assertRaises(TypeError, iter, thing)
 
 

@@ -154,9 +154,12 @@ class NamesTest(unittest.TestCase):
                     self.assertIn(node.id, BUILTINS, path)
 
     def test_methods_and_attributes(self):
-        methods, properties, stored = {}, set(), {}
+        methods, properties, stored, values = {}, set(), {}, set()
         for path, node in nodes(ast.ClassDef):
             for part in node.body:
+                if isinstance(part, ast.Assign):
+                    ast.literal_eval(part.value)
+                    values |= {target.id for target in part.targets}
                 if isinstance(part, ast.FunctionDef):
                     methods.setdefault(part.name, []).append(node.name)
                     properties |= {part.name} if part.decorator_list else set()
@@ -167,9 +170,10 @@ class NamesTest(unittest.TestCase):
         for name in methods:
             self.assertFalse(name.startswith("__") and name not in DOUBLE, name)
         self.assertEqual(set(methods) & set(stored) & properties, set())
+        self.assertEqual(values & ({*methods} | {*stored}), set())
         self.assertEqual([name for name in properties if len(methods[name]) > 1], [])
         for place, node in nodes(ast.Attribute):
-            self.assertIn(node.attr, METHODS | set(methods) | set(stored), place)
+            self.assertIn(node.attr, METHODS | set(methods) | set(stored) | values, place)
             self.assertFalse(node.attr.startswith("__") and node.attr not in DOUBLE, place)
 
 

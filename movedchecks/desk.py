@@ -1,12 +1,11 @@
 """Commands, as texts, and the answers to them."""
 
 from movedchecks.book import Book
-from movedchecks.errors import BadChoices, Full, NoCommand, NoGap, Nothing, NoText, Refused, TooMany, Unlike, Wrong
+from movedchecks.errors import BadChoices, Full, NoCommand, NoGap, Nothing, NoText, Refused, TooMany, Unlike
 from movedchecks.notation import (
     NOTHING, show_choices, show_deed, show_program, show_result, show_seen, with_commas
 )
 from movedchecks.playing import play
-from movedchecks.programs import Program
 from movedchecks.readers import read_address, read_choices, read_deed, read_result
 from movedchecks.results import are_made
 
@@ -22,8 +21,6 @@ class Desk:
     """Keeps a Book, and does what lines tell."""
 
     def __init__(self, program):
-        if not isinstance(program, Program):
-            raise Wrong(0)
         self._book = Book(program)
 
     def execute(self, line):

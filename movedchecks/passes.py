@@ -6,7 +6,6 @@ from movedchecks.rows import uses
 
 # Of which kinds the first row of a list can always leave it by itself.
 RISING = {"if": ("make", "read"), "once": ("make", "read"), "body": ("make", "check")}
-RISING_TOGETHER = ("check", "write")
 
 
 def can_pass(first, second):
@@ -36,14 +35,6 @@ def _writes_of_read(first, second):
     return [("write", row[2], (row[1],)) for row in (first, second) if row[0] == "read"]
 
 
-def _names_apart(first, second):
-    """The list of two names that stand at one place of two rows of writes; an empty one if there are none."""
-    if first[0] != "write" or second[0] != "write":
-        return []
-    pairs = [list(pair) for pair in zip(first[2], second[2]) if pair[0] != pair[1]]
-    return pairs[0] if len(pairs) > 0 else []
-
-
 def _different(names):
     return list({name: True for name in names})
 
@@ -53,10 +44,9 @@ def barrier(first, second):
     if can_pass(first, second):
         return None
     ahead, behind = _makes_of_checked(first, second), _writes_of_read(first, second)
-    made = [row[1] for row in ahead] + [row[1] for row in (first, second) if row[0] == "read"]
-    # Two names that tell two writes apart come first: as inputs they have unlike results.
-    used = _different(_names_apart(first, second) + uses(first) + uses(second))
-    given = [name for name in used if name not in made]
+    made = [row[1] for row in ahead]
+    given = [name for name in _different(uses(first) + uses(second)) if name not in made]
+    # The names of first are inputs, and so is the first further one of second: two writes are told apart by it.
     inputs, missing = given[:MOST_INPUTS], given[MOST_INPUTS:]
     choices = []
     if len(missing) > 0:
@@ -114,6 +104,6 @@ def risen(program, address):
     place = list_of_first(program, address)
     if row[0] in RISING.get(place, ()):
         return out_of_list(program, address)
-    if place == "if" and row[0] in RISING_TOGETHER and has_twin(program, address):
+    if place == "if" and has_twin(program, address):
         return out_of_both(program, address)
     raise NoRow(address)

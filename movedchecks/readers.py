@@ -1,6 +1,6 @@
 """What a text was shown from."""
 
-from movedchecks.deeds import is_deed
+from movedchecks.book import is_deed
 from movedchecks.errors import MoveError, NoText
 from movedchecks.kinds import LETTERS, are_choices, is_address, is_name
 from movedchecks.notation import NOTHING

@@ -125,6 +125,8 @@ class DeedsTest(BookCase):
         self.assertEqual(book.first, one)
         self.assertEqual(book.again(), ("keep",))
         self.assertEqual(book.first, book.program)
+        book.do(("name", "new", "keep"))
+        self.assertEqual([book.first == book.program, book.first], [False, book.past(5).program])
 
     def test_names(self):
         rows = [("if", [], [], [("j", "a", "b")]), ("check", "j"), ("write", "a", ["a", "j"])]
@@ -179,7 +181,7 @@ class DeedsTest(BookCase):
             deep = ("loop", [deep], [])
         for deed in any_values() + [
             ("keep", 0), ["keep"], "keep", ("Keep",), ("out",), ("out", [2]), ("out", (2,), (2,)), ("out", 2), ("out", ()), ("out", (2, 0)),
-            ("out", (-1,)), ("out", (True,)), ("move", (2,)), ("move", (2,), 3), ("move", (2,), [3]), ("move", (2,), (3,), (4,)),
+            ("out", (-1,)), ("out", (True,)), ("move", (2,)), ("move", (2,), 3), ("move", 2, (3,)), ("move", [2], (3,)), ("move", (2, 0), (3,)), ("move", (2,), (3, 0)), ("move", (2,), [3]), ("move", (2,), (3,), (4,)),
             ("put", (2,)), ("put", (2,), LOG, LOG), ("put", 2, LOG), ("put", (2,), list(LOG)), ("put", (2,), ("write", "C", [])),
             ("put", (2,), ("write", "c", list("abcd"))), ("put", (2,), [LOG]), ("put", (2,), ("if", [], [])), ("name", "x"), ("name", "x", "y", "z"),
             ("name", "x", "Y"), ("name", "", "y"), ("name", "x", ["y"]), ("name", True, "y"), ("do", (2,)), (book, book), book, (("keep",),), (None, (0,)),
@@ -282,6 +284,7 @@ class PastTest(BookCase):
         self.assertIs(book == other, True)
         again = Book(program(LOG, CHECK_X))
         self.assertFalse(again == book)
+        self.assertFalse(Book(program(CHECK_X)) == Book(program(CHECK_Y)))
         self.assertTrue(Book(Program(["b", "a"], [])) == Book(Program(["a", "b"], [])))
         for thing in (None, 0, program(CHECK_X), book.log(), [book], True):
             self.assertTrue(book != thing and not book == thing)

@@ -225,6 +225,11 @@ class BadStepTest(Case):
                      ("pass", "check", "if"), ("pass", ["check"], "write"), (True,), (("spare",),), None, one):
             for address in ((3,), (0,), one):
                 self.assertIs(self.fails(BadStep, stepped, one, (rule, address), step=(rule, address)).step[0], rule)
+        lists = program(("if", [IF, LOG], [IF], []), ("loop", [("loop", [], [])], [IF]), ("if", [LEAVE], [LEAVE], []), IF, CHECK_X)
+        for rule in (("rise", "if"), ("both", "if"), ("ahead", "loop"), ("once", "if"), ("rise", "leave"), ("both", "leave"), ("pass", "if", "check"),
+                     ("pass", "if", "if")):
+            for address in lists.addresses():
+                self.fails(BadStep, stepped, lists, (rule, address), step=(rule, address))
         for address in ([3], (True,), (5,), (3, 0, 0), 3, None, "", one, (-1,), ((3,),)):
             self.fails(BadStep, stepped, one, (("spare",), address), step=(("spare",), address))
         for step in ([("spare",), (3,)], (("spare",), (3,), ()), (("spare",),), ((3,), ("spare",)), one, True):

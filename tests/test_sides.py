@@ -146,6 +146,17 @@ class EndsTest(SidesCase):
         self.assertEqual(sides.seen(), (({}, None), ({}, None)))
         self.fails(Nothing, sides.back)
 
+    def test_the_other_one_has_ended_by_an_error(self):
+        one, other = program(LOG, IF, CHECK_X, IF), program(CHECK_X, IF, LOG, IF)
+        sides = Sides(one, other, [X])
+        self.stands(sides, one, other, [], [X])
+        self.assertEqual([end for _, end in sides.seen()], [None, ("error", "f")])
+        self.assertIs(sides.is_parted(), False)
+        sides.go("no")
+        self.assertEqual([end for _, end in sides.seen()], [("error", "f")] * 2)
+        self.assertIs(sides.is_parted(), True)
+        self.stands(sides, one, other, ["no"], [X])
+
     def test_both_have_ended_by_errors(self):
         one, other = program(CHECK_X, LOG, LOOP), program(LOG, CHECK_X, LOOP)
         sides = Sides(one, other, (X,))

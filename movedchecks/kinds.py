@@ -1,6 +1,5 @@
 """Of which kind a value is."""
 
-LETTERS = "abcdefghijklmnopqrstuvwxyz"
 LONGEST = 8
 WORDS = ("yes", "no", "round", "out")
 
@@ -12,19 +11,29 @@ def is_integer(thing):
 
 def is_name(thing):
     """Whether thing is a name: a string of one to eight lower-case letters."""
-    return isinstance(thing, str) and 1 <= len(thing) <= LONGEST and all([sign in LETTERS for sign in thing])
+    if not isinstance(thing, str) or len(thing) > LONGEST:
+        return False
+    return thing.isascii() and thing.isalpha() and thing.islower()
 
 
 def is_address(thing):
     """Whether thing is an address by its form: a tuple of an odd number of integers from 0 on."""
     if not isinstance(thing, tuple) or len(thing) % 2 == 0:
         return False
-    return all([is_integer(part) and part >= 0 for part in thing])
+    for part in thing:
+        if not is_integer(part) or part < 0:
+            return False
+    return True
 
 
 def are_names(thing, most):
     """Whether thing is a list or a tuple of at most so many names, the same ones perhaps."""
-    return isinstance(thing, (list, tuple)) and len(thing) <= most and all([is_name(name) for name in thing])
+    if not isinstance(thing, (list, tuple)) or len(thing) > most:
+        return False
+    for name in thing:
+        if not is_name(name):
+            return False
+    return True
 
 
 def are_choices(thing):

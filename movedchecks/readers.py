@@ -2,12 +2,13 @@
 
 from movedchecks.book import is_deed
 from movedchecks.errors import MoveError, NoText
-from movedchecks.kinds import LETTERS, are_choices, is_address, is_name
+from movedchecks.kinds import are_choices, is_address, is_name
 from movedchecks.notation import NOTHING
 from movedchecks.programs import Program
 from movedchecks.results import is_result
 from movedchecks.rows import is_row
 
+LETTERS = "abcdefghijklmnopqrstuvwxyz"
 DIGITS = "0123456789"
 MOST_DIGITS = 40
 DEEPEST_RESULT = 40

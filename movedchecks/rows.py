@@ -6,39 +6,43 @@ MOST_ARGS = 3
 PLAIN_KINDS = ("make", "read", "check", "write")
 
 
-def _is_join(thing):
-    return isinstance(thing, tuple) and len(thing) == 3 and all([is_name(name) for name in thing])
-
-
 def _are_joins(thing):
-    return isinstance(thing, (list, tuple)) and all([_is_join(join) for join in thing])
-
-
-def _has_form(kind, parts):
-    """Whether what stands behind the kind of a row is as this kind asks for."""
-    if kind == "make":
-        return len(parts) == 3 and is_name(parts[0]) and is_name(parts[1]) and are_names(parts[2], MOST_ARGS)
-    if kind == "read":
-        return len(parts) == 2 and is_name(parts[0]) and is_name(parts[1])
-    if kind == "check":
-        return len(parts) == 1 and is_name(parts[0])
-    if kind == "write":
-        return len(parts) == 2 and is_name(parts[0]) and are_names(parts[1], MOST_ARGS)
-    if kind == "if":
-        return len(parts) == 3 and are_rows(parts[0]) and are_rows(parts[1]) and _are_joins(parts[2])
-    if kind == "loop":
-        return len(parts) == 2 and are_rows(parts[0]) and are_rows(parts[1])
-    return kind == "leave" and len(parts) == 0
+    if not isinstance(thing, (list, tuple)):
+        return False
+    for join in thing:
+        if not isinstance(join, tuple) or len(join) != 3 or not are_names(join, 3):
+            return False
+    return True
 
 
 def is_row(thing):
     """Whether thing is a row by its form, whatever is in sight."""
-    return isinstance(thing, tuple) and len(thing) > 0 and _has_form(thing[0], thing[1:])
+    if not isinstance(thing, tuple) or len(thing) == 0:
+        return False
+    kind, many = thing[0], len(thing)
+    if kind == "make":
+        return many == 4 and is_name(thing[1]) and is_name(thing[2]) and are_names(thing[3], MOST_ARGS)
+    if kind == "check":
+        return many == 2 and is_name(thing[1])
+    if kind == "read":
+        return many == 3 and is_name(thing[1]) and is_name(thing[2])
+    if kind == "write":
+        return many == 3 and is_name(thing[1]) and are_names(thing[2], MOST_ARGS)
+    if kind == "if":
+        return many == 4 and are_rows(thing[1]) and are_rows(thing[2]) and _are_joins(thing[3])
+    if kind == "loop":
+        return many == 3 and are_rows(thing[1]) and are_rows(thing[2])
+    return kind == "leave" and many == 1
 
 
 def are_rows(thing):
     """Whether thing is a list or a tuple of rows by their form."""
-    return isinstance(thing, (list, tuple)) and all([is_row(row) for row in thing])
+    if not isinstance(thing, (list, tuple)):
+        return False
+    for row in thing:
+        if not is_row(row):
+            return False
+    return True
 
 
 def _all_frozen(rows):
@@ -137,20 +141,23 @@ def depth(rows):
 
 
 def rearranged(rows, gone, coming, road=()):
-    """A list of rows in which some are left out and others come in, all at once; road leads to this list.
+    """A tuple of rows in which some are left out and others come in, all at once; road leads to their list.
 
     gone is a dict whose keys are the addresses of the rows that are left out, coming one from gaps to the lists of
-    the rows that come there; both tell addresses and gaps as they are in the rows that are given.
+    the rows that come there; both tell addresses and gaps as they are in the rows that are given. All rows have
+    tuples for lists.
     """
     found = []
     for index, row in enumerate(rows):
         here = road + (index,)
-        found.extend(coming.get(here, ()))
-        if here not in gone:
-            lists = [
-                rearranged(part, gone, coming, here + (number,))
-                for number, part in enumerate(held_lists(row))
-            ]
-            found.append(with_lists(row, lists))
+        if here in coming:
+            found.extend(coming[here])
+        if here in gone:
+            continue
+        if row[0] in ("if", "loop"):
+            lists = [rearranged(row[1 + number], gone, coming, here + (number,)) for number in (0, 1)]
+            found.append((row[0], *lists, *row[3:]))
+        else:
+            found.append(row)
     found.extend(coming.get(road + (len(rows),), ()))
-    return found
+    return tuple(found)

@@ -4,25 +4,9 @@ A long chain of ifs has more choices than can be gone through. Therefore each na
 a node for either of its lists. Equal nodes are kept once, and an if whose lists give the same node is left out.
 """
 
-from movedchecks.rows import makes, uses
-
 MOST_TREES = 4
 MOST_PARTS = 12
 MOST_READINGS = 2
-
-
-def size_of(tree):
-    """The tuple (parts, readings) of a tree, each counted as often as it stands in it."""
-    if tree[0] != "made":
-        return 1, int(tree[0] == "seen")
-    sizes = [size_of(part) for part in tree[2]]
-    return 1 + sum([size[0] for size in sizes]), sum([size[1] for size in sizes])
-
-
-def is_large(tree):
-    """Whether a tree has more parts or more readings than a name may have."""
-    parts, readings = size_of(tree)
-    return parts > MOST_PARTS or readings > MOST_READINGS
 
 
 class Variants:
@@ -31,11 +15,13 @@ class Variants:
     def __init__(self, inputs, rows):
         self._numbers = {}
         self._nodes = []
+        # For each node the most parts and the most readings of one of its trees.
+        self._sizes = []
         self._known = {}
         self._wide = []
         self._ifs = 0
         for name in inputs:
-            self._known[name] = self._leaf(("in", name), ("in", name))
+            self._known[name] = self._leaf(("in", name), ("in", name), (1, 0))
         self._go_through(rows)
 
     def wide(self):
@@ -48,45 +34,44 @@ class Variants:
 
     def _go_through(self, rows):
         for row in rows:
-            if row[0] in ("if", "loop"):
+            if row[0] == "make":
+                self._note(row[1], row[3], row)
+            elif row[0] == "read":
+                self._known[row[1]] = self._leaf(("seen", row[2]), ("seen", row[2]), (1, 1))
+            elif row[0] in ("if", "loop"):
                 self._go_through(row[1])
                 self._go_through(row[2])
-            if row[0] == "if":
-                self._note_joins(row)
-            elif len(makes(row)) > 0:
-                self._note(row[1], uses(row), row)
+                if row[0] == "if":
+                    self._note_joins(row)
 
     def _note_joins(self, row):
         # An if gets its number behind those in its lists, so that a node stands above all that it rests on.
         self._ifs += 1
         for name, one, other in row[3]:
-            self._note(name, [one, other], row)
+            self._note(name, (one, other), row)
 
     def _note(self, name, used, row):
-        nodes = [self._known[part] for part in used]
+        nodes = tuple([self._known[part] for part in used])
         # Each tree of a part stands in a tree of the name: what is made of a wide name is wide, too.
-        node = None if None in nodes else self._node_of(row, nodes)
-        if node is not None and self._is_wide(node):
-            node = None
-        if node is None:
+        node = None
+        if None not in nodes:
+            node = self._either(self._ifs, *nodes) if row[0] == "if" else self._made(row[2], nodes)
+        if node is None or self._is_wide(node):
             self._wide.append(name)
+            node = None
         self._known[name] = node
 
-    def _node_of(self, row, nodes):
-        if row[0] == "if":
-            return self._either(self._ifs, nodes[0], nodes[1])
-        if row[0] == "read":
-            return self._leaf(("seen", row[2]), ("seen", row[2]))
-        return self._made(row[2], tuple(nodes))
-
     def _is_wide(self, node):
-        trees = self._trees_at(node)
-        return len(trees) > MOST_TREES or any([is_large(tree) for tree in trees])
+        parts, readings = self._sizes[node]
+        if parts > MOST_PARTS or readings > MOST_READINGS:
+            return True
+        return self._nodes[node][0] > 0 and len(self._trees_at(node)) > MOST_TREES
 
-    def _leaf(self, key, tree):
+    def _leaf(self, key, tree, size):
         if key not in self._numbers:
             self._numbers[key] = len(self._nodes)
             self._nodes.append((0, tree))
+            self._sizes.append(size)
         return self._numbers[key]
 
     def _either(self, number, yes, no):
@@ -96,6 +81,7 @@ class Variants:
         if key not in self._numbers:
             self._numbers[key] = len(self._nodes)
             self._nodes.append((number, yes, no))
+            self._sizes.append(tuple([max(pair) for pair in zip(self._sizes[yes], self._sizes[no])]))
         return self._numbers[key]
 
     def _made(self, word, parts):
@@ -105,7 +91,9 @@ class Variants:
             return self._numbers[key]
         latest = max([self._nodes[part][0] for part in parts], default=0)
         if latest == 0:
-            return self._leaf(key, ("made", word, tuple([self._nodes[part][1] for part in parts])))
+            sizes = [self._sizes[part] for part in parts]
+            size = (1 + sum([part[0] for part in sizes]), sum([part[1] for part in sizes]))
+            return self._leaf(key, ("made", word, tuple([self._nodes[part][1] for part in parts])), size)
         yes = self._made(word, tuple([self._side(part, latest, 1) for part in parts]))
         no = self._made(word, tuple([self._side(part, latest, 2) for part in parts]))
         self._numbers[key] = self._either(latest, yes, no)

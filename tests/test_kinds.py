@@ -26,6 +26,12 @@ class KindsTest(unittest.TestCase):
              {"a": 1}],
         )
 
+    def test_all_signs_of_names(self):
+        letters = "abcdefghijklmnopqrstuvwxyz"
+        for sign in map(chr, range(128)):
+            for text in (sign, "a" + sign, sign + "a", "abcdefg" + sign):
+                self.assertIs(is_name(text), sign in letters, text)
+
     def test_is_address(self):
         self.holds(
             is_address,

@@ -19,7 +19,7 @@ ALL_BUILTINS = set(dir(__import__("builtins")))
 METHODS = set(
     "append clear copy count endswith extend find get index insert isalnum isalpha isdigit islower isspace isupper "
     "items join keys ljust lower lstrip partition pop remove replace reverse rfind rjust rpartition rsplit rstrip "
-    "setdefault split splitlines startswith strip update upper values zfill bit_length".split()
+    "setdefault split splitlines startswith strip update upper values zfill bit_length isascii".split()
 )
 DOUBLE = {"__init__", "__eq__", "__repr__", "__str__", "__len__"}
 BARRED = set(

@@ -5,6 +5,7 @@ import unittest
 from movedchecks.errors import (
     Deep, Full, Inside, MoveError, NoGap, NoName, NoRow, NotLast, Twice, Unseen, Wide, Wrong
 )
+from movedchecks.places import reach
 from movedchecks.playing import Run
 from movedchecks.programs import Program
 from movedchecks.rows import frozen
@@ -153,6 +154,15 @@ class LimitsTest(Case):
         self.refuses(["a"], rows + [make("v", "r", "r", "s")], Wide, name="v")
         self.refuses(["a"], rows + [("if", [make("w", "y", "s")], [], [])], Wide, name="w")
 
+    def test_parts_and_readings_together(self):
+        rows = [("read", "r", "c"), make("x", "r", "r", "a"), make("y", "a", "a", "a"), make("z", "x", "y", "a")]
+        self.assertEqual(len(Program(["a"], rows + [make("v", "z", "a")])), 5)
+        self.refuses(["a"], rows + [make("v", "z", "a", "a")], Wide, name="v")
+        self.refuses(["a"], rows + [make("v", "y", "y", "y")], Wide, name="v")
+        self.refuses(["a"], rows + [make("v", "r", "r", "r")], Wide, name="v")
+        self.refuses(["a"], rows + [make("v", "x", "r")], Wide, name="v")
+        self.refuses(["a"], rows + [make("v", "a", "x", "r")], Wide, name="v")
+
     def test_one_wide_tree_of_a_join(self):
         rows = [make("x", "a", "a", "a"), make("y", "x", "x", "a"), ("if", [], [], [("j", "a", "y")])]
         self.assertEqual(len(Program(["a"], rows)), 3)
@@ -258,6 +268,15 @@ class AskingTest(Case):
                     self.assertEqual(program.row_of(name), address)
             for gap in program.gaps():
                 self.assertEqual(program.in_sight(gap), sorted(model.in_sight(program.inputs, rows, gap)))
+
+    def test_names_that_are_kinds_elsewhere(self):
+        rows = [("read", "leave", "loop"), ("check", "leave"), ("make", "if", "leave", ["leave"]), ("write", "if", ["leave"]),
+                ("read", "check", "leave"), ("if", [("check", "leave")], [("read", "loop", "if")], [("make", "leave", "loop")])]
+        program = Program([], rows)
+        self.assertEqual(program.rows(), [frozen(row) for row in rows])
+        self.assertEqual(program.names(), ["check", "if", "leave", "loop", "make"])
+        self.assertEqual(program.in_sight((5, 1, 1)), ["check", "if", "leave", "loop"])
+        self.assertEqual(reach(program, (1,)), [gap for gap in program.gaps() if gap != (0,)])
 
     def test_empty(self):
         program = Program([], [])
